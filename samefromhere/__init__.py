@@ -1,0 +1,1 @@
+"""Samefromhere: hands without names in any net."""

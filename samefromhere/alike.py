@@ -1,0 +1,68 @@
+"""Places that are alike, and closed lists of pairs of them."""
+
+from samefromhere.basics import can_pair, is_row
+from samefromhere.kinds import rank_rows
+from samefromhere.madenets import beside
+from samefromhere.nets import is_place_of, need_place
+
+
+def joint_rows(one, other):
+    """The rows of ranks ([13]) of both nets side by side, as pairs of one's part and other's part."""
+    many = len(one)
+    return [(row[:many], row[many:]) for row in rank_rows(beside([one, other]))]
+
+
+def alike_for(one, place, other, far):
+    need_place(one, place)
+    need_place(other, far)
+    for done, (near, away) in enumerate(joint_rows(one, other)):
+        if near[place] != away[far]:
+            return done - 1
+    return None
+
+
+def alike_pairs(one, other):
+    near, away = joint_rows(one, other)[-1]
+    return [(p, q) for p, rank in enumerate(near) for q, other_rank in enumerate(away) if rank == other_rank]
+
+
+def is_closed(one, other, thing):
+    pairs = _read_pairs(one, other, thing)
+    if pairs is None:
+        return False
+    near = _roads_to(one)
+    away = _roads_to(other)
+    signs = one.sign_keys()
+    far_signs = other.sign_keys()
+    return all([signs[p] == far_signs[q] and _can_match(near[p], away[q], pairs) for p, q in pairs])
+
+
+def _read_pairs(one, other, thing):
+    """The dict of unlike pairs of places that a list holds, None if it is none of such."""
+    if not is_row(thing):
+        return None
+    pairs = {}
+    for pair in thing:
+        if not is_row(pair) or len(pair) != 2:
+            return None
+        p, q = pair
+        if not is_place_of(len(one), p) or not is_place_of(len(other), q) or (p, q) in pairs:
+            return None
+        pairs[p, q] = True
+    return pairs
+
+
+def _roads_to(net):
+    """For each place the list of (sender, out, into) of the roads to it, marks as flat keys."""
+    roads = [[] for _ in range(len(net))]
+    for sender, place, out, into in net.road_keys():
+        roads[place].append((sender, out, into))
+    return roads
+
+
+def _can_match(near, away, pairs):
+    options = []
+    for sender, out, into in near:
+        fitting = [at for at, road in enumerate(away) if road[1:] == (out, into) and (sender, road[0]) in pairs]
+        options.append(fitting)
+    return can_pair(options, len(away))

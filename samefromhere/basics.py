@@ -1,0 +1,202 @@
+"""What all parts of the package stand on: kinds of objects, words and their order, lists, lots, pairings."""
+
+from samefromhere.errors import NetError
+
+# A list that holds itself has no end; so what lies deeper than any word of a caller is no word.
+DEEPEST = 5000
+
+# Flat keys: each part of a word is led by one of these, so that keys compare as words do.
+END_MARK = 0
+INTEGER_MARK = 1
+STRING_MARK = 2
+TUPLE_MARK = 3
+
+
+class Thing:
+    """Base of the objects that the package makes, so that none of them passes for a function."""
+
+
+def is_integer(thing):
+    return isinstance(thing, int) and not isinstance(thing, bool)
+
+
+def is_number(thing):
+    return is_integer(thing) and thing >= 0
+
+
+def is_row(thing):
+    return isinstance(thing, (list, tuple))
+
+
+def is_function(thing):
+    if thing is None or isinstance(thing, (int, str, bytes, list, tuple, dict)):
+        return False
+    return not isinstance(thing, Thing) and not isinstance(thing, NetError)
+
+
+def read_word(thing):
+    """The pair (word as tuples, flat key), None for what is no word."""
+    if isinstance(thing, str):
+        return thing, (STRING_MARK, thing)
+    if is_integer(thing):
+        return thing, (INTEGER_MARK, thing)
+    if not is_row(thing):
+        return None
+    flat = [TUPLE_MARK]
+    around = []
+    row = thing
+    at = 0
+    has_list = isinstance(thing, list)
+    while len(around) < DEEPEST:
+        if at == len(row):
+            flat.append(END_MARK)
+            if not around:
+                return (_built(flat) if has_list else thing), tuple(flat)
+            row, at = around.pop()
+            continue
+        part = row[at]
+        at += 1
+        if isinstance(part, (tuple, list)):
+            has_list = has_list or isinstance(part, list)
+            flat.append(TUPLE_MARK)
+            around.append((row, at))
+            row = part
+            at = 0
+        elif isinstance(part, str):
+            flat += (STRING_MARK, part)
+        elif isinstance(part, int) and not isinstance(part, bool):
+            flat += (INTEGER_MARK, part)
+        else:
+            return None
+    return None
+
+
+def _built(flat):
+    """The word with this key."""
+    built = [[]]
+    at = 0
+    while at < len(flat):
+        mark = flat[at]
+        if mark == TUPLE_MARK:
+            built.append([])
+        elif mark == END_MARK:
+            done = tuple(built.pop())
+            built[-1].append(done)
+        else:
+            at += 1
+            built[-1].append(flat[at])
+        at += 1
+    return built[0][0]
+
+
+def is_word(thing):
+    return read_word(thing) is not None
+
+
+def word_key(word):
+    """The flat key of what is known to be a word: keys compare as words do, and are short of depth."""
+    _, key = read_word(word)
+    return key
+
+
+def list_fault(thing, many, is_good):
+    """None, or the index that tells what is wrong with a list that is to have so many things."""
+    if not is_row(thing):
+        return 0
+    for at, item in enumerate(thing):
+        if at >= many or not is_good(at, item):
+            return at
+    if len(thing) < many:
+        return len(thing)
+    return None
+
+
+def unlike_fault(thing, is_good):
+    """None, or the index of the first thing in a list that is not good or stood before."""
+    if not is_row(thing):
+        return 0
+    for at, item in enumerate(thing):
+        if not is_good(item) or item in thing[:at]:
+            return at
+    return None
+
+
+def numbered(things):
+    """The dict from each unlike thing to its number, from 0 on, ascending."""
+    return {thing: at for at, thing in enumerate(sorted(set(things)))}
+
+
+def numbers_of(things):
+    """For each thing its number among the unlike ones, ascending."""
+    order = numbered(things)
+    return [order[thing] for thing in things]
+
+
+def grouped(labels):
+    """The lists of the indexes with one label, by their least indexes."""
+    lots = {}
+    for at, label in enumerate(labels):
+        lots.setdefault(label, []).append(at)
+    return list(lots.values())
+
+
+def lots_of(many, pairs):
+    """The lists of the numbers below many that pairs join, each ascending, by their least numbers."""
+    beside = [[] for _ in range(many)]
+    for one, other in pairs:
+        beside[one].append(other)
+        beside[other].append(one)
+    labels = [-1] * many
+    for start in range(many):
+        if labels[start] < 0:
+            labels[start] = start
+            todo = [start]
+            while todo:
+                for near in beside[todo.pop()]:
+                    if labels[near] < 0:
+                        labels[near] = start
+                        todo.append(near)
+    return grouped(labels)
+
+
+def row_after(row, bound):
+    """The tuple of numbers below bound that comes behind this one, None behind the last."""
+    at = len(row) - 1
+    while at >= 0 and row[at] == bound - 1:
+        at -= 1
+    if at < 0:
+        return None
+    return row[:at] + (row[at] + 1,) + (0,) * (len(row) - at - 1)
+
+
+def can_pair(options, many):
+    """Whether each list of options, there being so many, can be given one of its own."""
+    if len(options) != many:
+        return False
+    owner = {}
+    held = {}
+    for start in range(many):
+        came = {}
+        free = _free_end(options, start, owner, came)
+        if free is None:
+            return False
+        while free is not None:
+            left = came[free]
+            given_up = held.get(left)
+            owner[free] = left
+            held[left] = free
+            free = given_up
+    return True
+
+
+def _free_end(options, start, owner, came):
+    todo = [start]
+    while todo:
+        left = todo.pop()
+        for right in options[left]:
+            if right not in came:
+                came[right] = left
+                if right not in owner:
+                    return right
+                todo.append(owner[right])
+    return None

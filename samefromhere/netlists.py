@@ -1,0 +1,41 @@
+"""Alike places of lists of nets."""
+
+from samefromhere.basics import grouped
+from samefromhere.kinds import rank_rows, ranks_behind, rounds_needed
+from samefromhere.madenets import beside, need_nets
+from samefromhere.plans import need_rounds
+
+
+def kind_numbers(nets, rounds):
+    """For each net the list of the numbers of its places' kinds, which are numbered by their first pairs;
+    None for rounds is for ever."""
+    row = ranks_behind(rank_rows(beside(nets)), rounds)
+    numbers = {}
+    for rank in row:
+        numbers.setdefault(rank, len(numbers))
+    found = []
+    ahead = 0
+    for net in nets:
+        found.append([numbers[rank] for rank in row[ahead:ahead + len(net)]])
+        ahead += len(net)
+    return found
+
+
+def kinds_of(nets, rounds):
+    kept = need_nets(nets)
+    need_rounds(rounds)
+    pairs = [(index, place) for index, net in enumerate(kept) for place in range(len(net))]
+    lots = grouped([number for row in kind_numbers(kept, rounds) for number in row])
+    return [[pairs[at] for at in lot] for lot in lots]
+
+
+def rounds_of(nets):
+    return rounds_needed(beside(nets))
+
+
+def parted_nets(nets, rounds):
+    kept = need_nets(nets)
+    need_rounds(rounds)
+    rows = kind_numbers(kept, rounds)
+    many = range(len(rows))
+    return [(i, j) for i in many for j in many if i < j and not any([kind in rows[j] for kind in rows[i]])]

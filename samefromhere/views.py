@@ -1,0 +1,154 @@
+"""Views: what could come to a place in so many rounds."""
+
+from samefromhere.basics import is_number, numbered, numbers_of, read_word, word_key
+from samefromhere.errors import BadView
+from samefromhere.nets import need_place
+from samefromhere.plans import Asked, need_rounds
+
+
+def view(net, place, rounds):
+    need_place(net, place)
+    need_rounds(rounds)
+    return views_of(net, rounds)[place]
+
+
+def views_of(net, rounds):
+    """The views of all places; their order is kept by numbers, as written views grow."""
+    signs = net.signs()
+    sign_numbers = numbers_of(net.sign_keys())
+    heard = heard_roads(net)
+    seen = [(0, sign, ()) for sign in signs]
+    order = sign_numbers
+    for done in range(rounds):
+        rows = [_ascending(row, order) for row in heard]
+        triples = [tuple([(road[3], road[2], seen[road[0]]) for _, road in row]) for row in rows]
+        keys = [(sign_numbers[place], tuple([key for key, _ in row])) for place, row in enumerate(rows)]
+        seen = [(done + 1, sign, triples[place]) for place, sign in enumerate(signs)]
+        order = numbers_of(keys)
+    return seen
+
+
+def _ascending(row, order):
+    rows = [((into, out, order[sender]), road) for into, out, sender, road in row]
+    return sorted(rows, key=lambda item: item[0])
+
+
+def heard_roads(net):
+    """For each place the list of (number of into, number of out, sender, road), one for each road to it."""
+    heard = [[] for _ in range(len(net))]
+    keys = net.road_keys()
+    order = numbered([key for road in keys for key in road[2:]])
+    for road, (one, other, out, into) in zip(net.roads(), keys):
+        heard[other].append((order[into], order[out], one, road))
+    return heard
+
+
+def view_plan():
+    return (_begin_view, _say_view, _hear_views, _tell_view)
+
+
+def _begin_view(sign):
+    return (0, sign, ())
+
+
+def _say_view(state, out):
+    return (out, state)
+
+
+def _hear_views(state, heard):
+    return (state[0] + 1, state[1], tuple([(into, letter[0], letter[1]) for into, letter in heard]))
+
+
+def _tell_view(state):
+    return state
+
+
+def state_in(plan, seen):
+    asked = Asked(plan)
+    levels = read_view(seen)
+    if levels is None:
+        raise BadView(seen)
+    behind = []
+    rounds = seen[0] - len(levels)
+    for level in reversed(levels):
+        rounds += 1
+        behind = [_states_along(asked, node, behind, rounds) for node in level]
+    return asked.word(behind[0][-1])
+
+
+def _states_along(asked, node, behind, rounds):
+    """The states of one view behind 0, 1, .. rounds, made of those that its senders have."""
+    sign, triples = node
+    roads = [(asked.number(into), asked.number(out), behind[sender]) for into, out, sender in triples]
+    line = [asked.begin(asked.number(sign))]
+    for done in range(rounds):
+        pairs = [(into, asked.say(sender[done], out)) for into, out, sender in roads]
+        line.append(asked.hear(line[-1], pairs))
+    return line
+
+
+def read_view(thing):
+    """None for what is no view, else by how deep they lie the lists of the unlike views in it, the view first:
+    pairs (sign, list of the triples (into, out, number of the sender's view in the list below))."""
+    read = read_word(thing)
+    if read is None:
+        return None
+    levels = _levels(read[0])
+    if levels is None:
+        return None
+    found = []
+    below = []
+    for row in reversed(levels):
+        keys = _level_keys(row, below)
+        if not all([_is_ascending(triples) for _, triples in keys]):
+            return None
+        order = numbered(keys)
+        sample = {key: item for key, item in zip(keys, row)}
+        found.append([_node(sample[key], key[1]) for key in order])
+        below = [order[key] for key in keys]
+    return found[::-1]
+
+
+def _levels(word):
+    """The views that lie so deep, list by list, each as often as it stands there; None if one is no view."""
+    if not isinstance(word, tuple) or len(word) == 0 or not is_number(word[0]):
+        return None
+    rounds = word[0]
+    levels = []
+    row = [word]
+    while row:
+        if not all([_has_shape(item, rounds) for item in row]):
+            return None
+        levels.append(row)
+        row = [triple[2] for item in row for triple in item[2]]
+        rounds -= 1
+    return levels
+
+
+def _has_shape(item, rounds):
+    if not isinstance(item, tuple) or len(item) != 3 or item[0] != rounds or not isinstance(item[2], tuple):
+        return False
+    if rounds == 0:
+        return item[2] == ()
+    return all([isinstance(triple, tuple) and len(triple) == 3 for triple in item[2]])
+
+
+def _level_keys(row, below):
+    keys = []
+    at = 0
+    for item in row:
+        triples = []
+        for into, out, _ in item[2]:
+            triples.append((word_key(into), word_key(out), below[at]))
+            at += 1
+        keys.append((word_key(item[1]), tuple(triples)))
+    return keys
+
+
+def _is_ascending(triples):
+    return list(triples) == sorted(triples)
+
+
+def _node(item, triples):
+    """Equal keys are equal views; so any view with the key tells the words."""
+    return item[1], [(into, out, key[2]) for (into, out, _), key in zip(item[2], triples)]
