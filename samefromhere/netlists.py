@@ -6,10 +6,9 @@ from samefromhere.madenets import beside, need_nets
 from samefromhere.plans import need_rounds
 
 
-def kind_numbers(nets, rounds):
-    """For each net the list of the numbers of its places' kinds, which are numbered by their first pairs;
-    None for rounds is for ever."""
-    row = ranks_behind(rank_rows(beside(nets)), rounds)
+def kind_numbers(nets, row):
+    """For each net the list of the numbers of its places' kinds, which are numbered by their first pairs; row has
+    the ranks of the places of all nets side by side."""
     numbers = {}
     for rank in row:
         numbers.setdefault(rank, len(numbers))
@@ -21,11 +20,16 @@ def kind_numbers(nets, rounds):
     return found
 
 
+def kind_rows(nets, rounds):
+    """These numbers behind so many rounds, None being for ever."""
+    return kind_numbers(nets, ranks_behind(rank_rows(beside(nets)), rounds))
+
+
 def kinds_of(nets, rounds):
     kept = need_nets(nets)
     need_rounds(rounds)
     pairs = [(index, place) for index, net in enumerate(kept) for place in range(len(net))]
-    lots = grouped([number for row in kind_numbers(kept, rounds) for number in row])
+    lots = grouped([number for row in kind_rows(kept, rounds) for number in row])
     return [[pairs[at] for at in lot] for lot in lots]
 
 
@@ -36,6 +40,6 @@ def rounds_of(nets):
 def parted_nets(nets, rounds):
     kept = need_nets(nets)
     need_rounds(rounds)
-    rows = kind_numbers(kept, rounds)
+    rows = kind_rows(kept, rounds)
     many = range(len(rows))
     return [(i, j) for i in many for j in many if i < j and not any([kind in rows[j] for kind in rows[i]])]

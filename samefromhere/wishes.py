@@ -4,9 +4,9 @@ from itertools import combinations
 
 from samefromhere.basics import is_function, is_row, read_word, row_after
 from samefromhere.errors import BadAnswers, BadRight
+from samefromhere.kinds import rank_rows
 from samefromhere.madenets import beside, need_nets
-from samefromhere.kinds import rounds_needed
-from samefromhere.netlists import kind_numbers
+from samefromhere.netlists import kind_numbers, kind_rows
 from samefromhere.plans import need_rounds
 
 
@@ -81,7 +81,7 @@ def _add_rows(wish, todo, picked, most, found):
 
 def wish_choices(wish, rounds, most):
     """The first so many (None for all) of the right choices for so many rounds."""
-    rows = kind_numbers(wish.nets, rounds)
+    rows = kind_rows(wish.nets, rounds)
     found = right_rows(wish, rows, list(range(len(rows))), most)
     return [tuple([wish.words[picked[kind]] for kind in range(len(picked))]) for picked in found]
 
@@ -106,8 +106,9 @@ def first_of(wish, rounds):
 
 def rounds_for(nets, answers, right):
     wish = Wish(nets, answers, right)
-    for rounds in range(rounds_needed(beside(wish.nets)) + 1):
-        if first_of(wish, rounds) is not None:
+    indexes = list(range(len(wish.nets)))
+    for rounds, row in enumerate(rank_rows(beside(wish.nets))):
+        if right_rows(wish, kind_numbers(wish.nets, row), indexes, 1):
             return rounds
     return None
 
@@ -115,7 +116,7 @@ def rounds_for(nets, answers, right):
 def barring(nets, answers, right, rounds):
     wish = Wish(nets, answers, right)
     need_rounds_or_ever(rounds)
-    rows = kind_numbers(wish.nets, rounds)
+    rows = kind_rows(wish.nets, rounds)
     for size in range(1, len(rows) + 1):
         for indexes in combinations(range(len(rows)), size):
             if not right_rows(wish, rows, indexes, 1):

@@ -22,7 +22,7 @@ def plan_for(nets, answers, right, rounds):
     rows = rank_rows(both)
     if rounds is not None:
         rows = rows[:rounds + 1]
-    kinds = [kind for row in kind_numbers(wish.nets, rounds) for kind in row]
+    kinds = [kind for row in kind_numbers(wish.nets, rows[-1]) for kind in row]
     answer = {rank: choice[kind] for rank, kind in zip(rows[-1], kinds)}
     begun = {key: rank for key, rank in zip(both.sign_keys(), rows[0])}
     steps = [_step(both, row, later) for row, later in zip(rows, rows[1:])]

@@ -47,6 +47,19 @@ class TestAlikeFor(unittest.TestCase):
         self.assertEqual(alike_for(row, 4, ring("a"), 0), 4)
         self.assertEqual(alike_for(Net(["a"], []), 0, Net([("a",)], []), 0), -1)
 
+    def test_limits(self):
+        roads = [(i, i + 1, "", "") for i in range(39)] + [(0, 0, "", "")] * 80 + [(0, 1, "", "")] * 80
+        one = Net(["a"] * 40, roads)
+        other = Net(["a"] * 40, roads + [(39, 39, 1, 1)])
+        self.assertEqual(alike_for(one, 39, other, 38), 37)
+        self.assertEqual(alike_for(one, 39, other, 39), 0)
+        self.assertEqual(alike_pairs(one, other), [(place, place) for place in range(39)])
+        self.assertTrue(is_closed(one, other, alike_pairs(one, other)))
+        whole = Net(["a"] * 14, [(i, j, "", "") for i in range(14) for j in range(14)])
+        self.assertEqual(len(alike_pairs(whole, whole)), 196)
+        self.assertTrue(is_closed(whole, whole, alike_pairs(whole, whole)))
+        self.assertFalse(is_closed(whole, whole, alike_pairs(whole, whole)[14:]))
+
     def test_no_place(self):
         for thing in ANY_OBJECTS + [3]:
             if isinstance(thing, bool) or not isinstance(thing, int) or not 0 <= thing < 3:
@@ -93,6 +106,15 @@ class TestPairs(unittest.TestCase):
         self.assertFalse(is_closed(one, one, [(0, 0), (1, 0), (2, 2)]))
         self.assertTrue(is_closed(one, one, [(0, 1), (1, 0), (2, 2)]))
 
+    def test_marks_are_paired(self):
+        for mark, told in ((("x", "y"), True), (("y", "x"), False), (("x", "x"), False), (("y", "y"), False)):
+            one = Net(["a", "a"], [(0, 1, "x", "y")])
+            other = Net(["a", "a"], [(0, 1, *mark)])
+            self.assertIs(is_closed(one, other, [(0, 0), (1, 1)]), told)
+        one = Net(["a", "a"], [(0, 1, "x", ""), (0, 1, "x", ""), (0, 1, "y", "")])
+        other = Net(["a", "a"], [(0, 1, "x", ""), (0, 1, "y", ""), (0, 1, "y", "")])
+        self.assertIs(is_closed(one, other, [(0, 0), (1, 1)]), False)
+
     def test_any_object(self):
         good = [(0, 0), (2, 2), (1, 1), (3, 3)]
         self.assertTrue(is_closed(R, R, good))
@@ -102,6 +124,10 @@ class TestPairs(unittest.TestCase):
             told = is_closed(R, R, thing)
             self.assertIs(told, thing == [] or thing == ())
             self.assertIs(is_closed(R, R, good + [thing]), False)
+        for place in (True, None, "0", -1, 4, (0,), LONE):
+            self.assertIs(is_closed(R, R, good[:2] + [(place, 3)] + good[2:]), False)
+            self.assertIs(is_closed(R, R, good[:2] + [(3, place)] + good[2:]), False)
+        self.assertIs(is_closed(R, R, [{0: 0, 1: 1}] + good[1:]), False)
         for thing in (good + [[0, 0]], [(0, 0, 0)], [(0,)], ["00"], [(0, 4)], [(True, 0)] + good[1:], [(0, 1)],
                       good + [(0, -1)]):
             self.assertIs(is_closed(R, R, thing), False)

@@ -113,6 +113,11 @@ class TestMaps(unittest.TestCase):
         self.assertEqual(maps_over(ring("ab"), R), [])
         self.assertEqual(maps_over(R, ring("ab")), [[0, 1, 0, 1]])
 
+    def test_as_lists_compare(self):
+        net = Net(["b", "c", "a", "a", "c"], [(2, 0, "", ""), (3, 0, "", ""), (0, 1, "", ""), (0, 4, "", "")])
+        self.assertEqual(maps_over(net, net), [[0, 1, 2, 3, 1], [0, 1, 2, 3, 4], [0, 1, 3, 2, 1], [0, 1, 3, 2, 4],
+                                               [0, 4, 2, 3, 1], [0, 4, 2, 3, 4], [0, 4, 3, 2, 1], [0, 4, 3, 2, 4]])
+
     def test_limits(self):
         bare = Net(["a"] * 4, [])
         self.assertEqual(len(maps_over(Net(["a"] * 6, []), bare)), 4096)

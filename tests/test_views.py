@@ -70,6 +70,7 @@ class TestStateIn(unittest.TestCase):
                (1, "a", (leaf,)), (1, "a", ((0, 0, 0, leaf),)), (1, "a", ((0, None, leaf),)), (1, "a", ("00a",)),
                (1, "a", ((0, 0, ()),)), (1, "a", ((0, 0, "abc"),)), (1, "a", leaf), (0, "a", 0), ((0,), "a", ()),
                (2, "a", ((0, 0, (1, "a", ((0, 0, other), (0, 0, leaf)))),)), "0a)", (1, "a", ((0, (), leaf), (0, "", leaf)))]
+        bad += [(1, "a", ""), (1, "a", "b"), (2, "a", 5), (1, "a", -1), (1, "a", (("", "", (0, "a", "")),))]
         for thing in bad + ANY_OBJECTS:
             with self.assertRaises(BadView) as caught:
                 state_in(view_plan(), thing)

@@ -3,6 +3,7 @@
 import unittest
 
 from samefromhere.errors import CanBeDone, NoWord
+from samefromhere.kinds import kinds_for_ever, rounds_needed
 from samefromhere.netlists import kinds_of, rounds_of
 from samefromhere.nets import Net
 from samefromhere.plans import told
@@ -45,6 +46,16 @@ class TestPlanFor(unittest.TestCase):
                 count += 1
         self.assertGreater(count, 100)
 
+    def test_all_kinds_are_told_apart(self):
+        for net in samples(60, most=5, signs=1, road_words=3):
+            if len(kinds_for_ever(net)) > 5:
+                continue
+            row = tuple(kind for place in range(len(net)) for kind, lot in enumerate(kinds_for_ever(net))
+                        if place in lot)
+            plan = plan_for([net], list(range(max(row) + 1)), lambda index, given: given == row, None)
+            for rounds in range(rounds_needed(net), rounds_needed(net) + 3):
+                self.assertEqual(told(net, plan, rounds), list(row))
+
     def test_elsewhere_it_tells_something(self):
         nets = [R, S]
         answers, right = written(nets, ("colours", 2))
@@ -54,6 +65,16 @@ class TestPlanFor(unittest.TestCase):
                 for answer in told(net, plan, rounds):
                     self.assertIn(answer, answers)
         self.assertEqual(told(ring("ba"), plan, 3), [1, 0])
+
+    def test_ahead_of_its_rounds_and_behind(self):
+        row = Net(["a"] * 4, [(i, i + 1, "", "") for i in range(3)])
+        answers, right = written([row], "names")
+        plan = plan_for([row], answers, right, None)
+        for rounds in range(3):
+            for answer in told(row, plan, rounds):
+                self.assertIn(answer, answers)
+        for rounds in (3, 4, 30):
+            self.assertEqual(told(row, plan, rounds), [0, 1, 2, 3])
 
     def test_many_rounds_and_roads(self):
         """Views here would be far too long to be written."""

@@ -103,6 +103,7 @@ class TestWritten(unittest.TestCase):
         self.assertFalse(written([S], ("steps", "y"))[1](0, (0, 0, 0)))
         self.assertTrue(written([S], ("steps", "y"))[1](0, (-1, 0, 0)))
         tree = written([PATH], "tree")[1]
+        self.assertFalse(tree(0, (("r",), ("x",), ())))
         self.assertTrue(tree(0, (("r",), (), ("l",))))
         self.assertTrue(tree(0, (("r",), ("r",), ())))
         self.assertFalse(tree(0, (("r",), ("l",), ())))
@@ -114,7 +115,8 @@ class TestWritten(unittest.TestCase):
     def test_bad_written(self):
         bad = not_words() + ["", "heads", "colours", ("head",), ("colours",), ("colours", 0), ("colours", True),
                              ("colours", "2"), ("colours", 2, 2), ("steps",), ("steps", None), ("steps", "a", "b"),
-                             ("true",), ("true", [1]), ("true", [1, 2, 3]), ("true", "ab"), ("true", [1, None]),
+                             ("true",), ("true", [1]), ("true", [1, 2, 3]), ("true", "ab"), ("true", [1, None]), ("false", [1, 2]),
+                             ("names", [1, 2]), ("", ["a", "b"]),
                              ("names", 2), 0, (0, 1), ("tree", "tree"), (("head",), 1), ("true", 2), ()]
         for word in bad:
             with self.assertRaises(BadWritten) as caught:
