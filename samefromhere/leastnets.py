@@ -53,10 +53,11 @@ def maps_over(net, base):
     fitting = [[] for _ in range(len(net))]
     for place, image in alike_pairs(net, base):
         fitting[place].append(image)
-    found = [{}]
-    for lot in lots_of(len(net), [road[:2] for road in net.roads()]):
-        search = MapSearch(net, base, fitting)
-        parts = search.maps_of(lot)
+    search = MapSearch(net, base, fitting)
+    lots = [search.maps_of(lot) for lot in lots_of(len(net), [road[:2] for road in net.roads()])]
+    # Nothing is put together in vain where a lot has no map.
+    found = [{}] if all(lots) else []
+    for parts in lots:
         found = [{**ahead, **part} for ahead in found for part in parts]
     return sorted([[images[place] for place in range(len(net))] for images in found])
 
