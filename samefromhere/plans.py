@@ -83,17 +83,21 @@ class Asked:
         return self._told[state]
 
 
-def run(asked, net, rounds):
-    """The numbers of the states behind so many rounds."""
-    stand = [asked.begin(asked.number(sign)) for sign in net.signs()]
+def begun_states(asked, net):
+    """The numbers of the states in which the places begin."""
+    return [asked.begin(asked.number(sign)) for sign in net.signs()]
+
+
+def ways_of(asked, net):
+    """What a round goes by: the marks out of each place, and the roads, words as numbers."""
     doors = [[asked.number(mark) for mark in marks(net, place)] for place in range(len(net))]
     roads = [(one, other, asked.number(out), asked.number(into)) for one, other, out, into in net.roads()]
-    for _ in range(rounds):
-        stand = _round_on(asked, stand, doors, roads)
-    return stand
+    return doors, roads
 
 
-def _round_on(asked, stand, doors, roads):
+def round_on(asked, stand, ways):
+    """The numbers of the states behind one round more."""
+    doors, roads = ways
     said = {}
     for place, state in enumerate(stand):
         for out in doors[place]:
@@ -102,6 +106,15 @@ def _round_on(asked, stand, doors, roads):
     for one, other, out, into in roads:
         heard[other].append((into, said[one, out]))
     return [asked.hear(state, heard[place]) for place, state in enumerate(stand)]
+
+
+def run(asked, net, rounds):
+    """The numbers of the states behind so many rounds."""
+    stand = begun_states(asked, net)
+    ways = ways_of(asked, net)
+    for _ in range(rounds):
+        stand = round_on(asked, stand, ways)
+    return stand
 
 
 def answers_of(asked, net, rounds):

@@ -20,17 +20,22 @@ def views_of(net, rounds):
     seen = [(0, sign, ()) for sign in signs]
     order = sign_numbers
     for done in range(rounds):
-        rows = [_ascending(row, order) for row in heard]
-        triples = [tuple([(road[3], road[2], seen[road[0]]) for _, road in row]) for row in rows]
-        keys = [(sign_numbers[place], tuple([key for key, _ in row])) for place, row in enumerate(rows)]
+        triples, keys = triples_heard(heard, seen, order)
         seen = [(done + 1, sign, triples[place]) for place, sign in enumerate(signs)]
-        order = numbers_of(keys)
+        order = numbers_of(list(zip(sign_numbers, keys)))
     return seen
 
 
-def _ascending(row, order):
-    rows = [((into, out, order[sender]), road) for into, out, sender, road in row]
-    return sorted(rows, key=lambda item: item[0])
+def triples_heard(heard, seen, order):
+    """What each place hears where the places have these views, and these numbers by the order of views: the list of
+    the tuples of triples (into, out, view), ascending, and that of their keys, which compare as they do."""
+    triples = []
+    keys = []
+    for row in heard:
+        rows = sorted([((into, out, order[sender]), road) for into, out, sender, road in row], key=lambda item: item[0])
+        triples.append(tuple([(road[3], road[2], seen[road[0]]) for _, road in rows]))
+        keys.append(tuple([key for key, _ in rows]))
+    return triples, keys
 
 
 def heard_roads(net):

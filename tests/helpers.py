@@ -199,3 +199,57 @@ def mix_plan(modulus=5):
             lambda state, out: (state + value(out)) % modulus,
             lambda state, heard: (state + value(heard)) % modulus,
             lambda state: {"told": state})
+
+
+def bases(many=20, most=4, roads=7):
+    """Strong nets of places of unlike kinds: fixed ones and random ones."""
+    from samefromhere.leastnets import least_net
+    from samefromhere.shapes import is_strong
+    two = Net(["a", "b"], [(0, 1, "", 0), (0, 1, "", 1), (1, 0, "", "")])
+    loops = Net(["a"], [(0, 0, 0, 0), (0, 0, 1, 1)])
+    found = [two, Net(["a"], [(0, 0, "", "")]), loops, ring("abc"), Net(["a", "b"], two.roads() + [(0, 0, "", "")]),
+             Net(["a", "b", "c"], [(0, 1, "", ""), (1, 2, "", ""), (2, 0, "", ""), (1, 0, "", "")])]
+    seed = 0
+    while len(found) < many:
+        pick = random.Random(seed)
+        seed += 1
+        places = pick.randint(1, most)
+        rows = [(i, (i + 1) % places, 0, 0) for i in range(places)]
+        rows += [(pick.randrange(places), pick.randrange(places), pick.randrange(2), pick.randrange(2))
+                 for _ in range(pick.randint(0, roads - places))]
+        net = least_net(Net([pick.choice(["a", "b", 3]) for _ in range(places)], rows))
+        if is_strong(net) and net not in found:
+            found.append(net)
+    return found
+
+
+def faults(call, error, name, pairs):
+    """Checks that call(thing) raises this error, just this class, holding what each pair of (thing, held) tells."""
+    for thing, held in pairs:
+        try:
+            call(thing)
+        except NetError as caught:
+            told = getattr(caught, name)
+            if type(caught) is not error or told is not held and told != held:
+                raise AssertionError((thing, caught, told, held))
+        else:
+            raise AssertionError((thing, "nothing raised"))
+
+
+def list_pairs(many, good, is_good, both_ways=False):
+    """Pairs (thing, index) of faulty lists of so many things, good being a good one. With both_ways the first thing
+    that is none comes ahead of what is one too many, which holds the lesser one of both lengths."""
+    pairs = [(thing, 0) for thing in ANY_OBJECTS if not isinstance(thing, (list, tuple))]
+    for at in range(many):
+        for thing in ANY_OBJECTS:
+            if not is_good(at, thing):
+                pairs.append((good[:at] + [thing] + good[at + 1:], at))
+                pairs.append((tuple(good[:at]) + (thing, None), at))
+        pairs.append((good[:at], at))
+    pairs.append((good + [good[0] if good else 0], many))
+    pairs.append((good + [None], many))
+    if both_ways:
+        pairs.append((good + [good[0], None], many + 1))
+    else:
+        pairs.append((good + [good[0] if good else 0, None], many))
+    return pairs

@@ -29,6 +29,36 @@ ROWS = {
     "wishplans": "plan_for(nets, answers, right, rounds) wish_fault(nets, answers, right, plan, rounds) "
                  "break_wish(nets, answers, right, plan, rounds)",
     "written": "written(nets, word)",
+    "marking": "marked(net, places) fewest_marked(net, answers, right, rounds) words_for(net, answers, right, rounds)",
+    "countrows": "count_row(net, base) is_count_row(base, thing) count_rows(base, most)",
+    "questions": "rows_apart(base, rows, question) break_count(base, rows, question, plan, rounds)",
+    "comparisons": "least_weights(base, form) are_weights(base, form, thing) row_below(base, form) "
+                   "share_bound(base, one, other)",
+    "doors": "share_row(base, doors) ways_to(base, place) marked_rows(base, place, many)",
+    "finals": "ended(net, plan, rounds) is_door_view(thing) is_final(seen) final_net(seen) open_pair(seen) "
+              "sizes_with(seen) twice(seen)",
+    "shutnets": "is_shut(net) final_after(net)",
+    "joints": "joint_net(views) views_clash(views) strong_net(views)",
+    "fooled": "fooling(one, other, rounds) break_end(one, other, plan, rounds, due)",
+    "guesses": "guess(seen) settled_after(net)",
+    "rings": "one_way_ring(signs) door_ring(signs, senses) door_row(signs, senses) around(signs, times)",
+    "ringkinds": "least_period(signs) ring_rounds(signs) reading(signs, senses, start, door, steps) "
+                 "alike_around(one, other)",
+    "ringaxes": "ring_axes(signs, senses) door_rounds(signs, senses) kind_size(signs, senses) "
+                "row_turned(signs, senses) rounds_of_row(signs, senses)",
+    "ringsenses": "ring_sense(signs, senses) barred_by(signs, senses) sense_plan(number) "
+                  "least_colours(signs, senses) count_barred(number, many) count_heads(number, many)",
+    "groups": "elements_of(moduli) steps_to(moduli, steps) subgroups(moduli) quotient(moduli, subgroup) "
+              "mirrors(moduli, steps)",
+    "turnnets": "turn_net(moduli, steps, signs) crowd_net(moduli, steps, signs) door_net(moduli, steps, signs)",
+    "patterns": "own_turns(moduli, signs) rounds_to_part(moduli, steps, signs) turn_base(moduli, steps, signs) "
+                "patterns_of(moduli, subgroup, many) pattern_counts(moduli, many) turn_between(moduli, one, other) "
+                "mirrored_kinds(moduli, steps, signs) apart_answers(moduli, steps, signs, many)",
+    "netrows": "row_states(row, plan, rounds) row_answers(row, plan, rounds) row_view(row, place, rounds)",
+    "rowkinds": "row_kinds(row, rounds) row_kinds_for_ever(row) row_rounds(row) row_ranks(row) least_row(row) "
+                "is_row_map(row, base, thing)",
+    "rowlists": "rows_alike_for(one, place, other, far) rows_kinds(rows, rounds) "
+                "row_choice(rows, rounds, answers, right) break_rows(rows, rounds, right, plan)",
 }
 
 

@@ -237,7 +237,7 @@ class TestStatements(unittest.TestCase):
                 if name in AT_ONCE:
                     parent = parents[node]
                     fits = isinstance(parent, (ast.For, ast.comprehension)) or called(parent) in TAKES
-                    kept = name == "range" and isinstance(parent, ast.Assign)
+                    kept = name == "range" and (isinstance(parent, ast.Assign) or called(parent) == "reversed")
                     self.assertTrue(fits or kept, (stem, node.lineno, name))
                 if name == "set":
                     self.assertIn(called(parents[node]), ("sorted", "len"), (stem, node.lineno))
