@@ -253,3 +253,56 @@ def list_pairs(many, good, is_good, both_ways=False):
     else:
         pairs.append((good + [good[0] if good else 0, None], many))
     return pairs
+
+
+def random_shut(seed, most=5):
+    """A tree with doors numbered place by place, every second time with one half loop."""
+    pick = random.Random(seed)
+    many = pick.randint(1, most)
+    doors = [0] * many
+    ways = []
+
+    def door(place):
+        doors[place] += 1
+        return doors[place] if pick.random() < 0.7 else "d" * doors[place]
+
+    for place in range(1, many):
+        near = pick.randrange(place)
+        ways.append((near, place, door(near), door(place)))
+    if seed % 2:
+        place = pick.randrange(many)
+        mark = door(place)
+        ways.append((place, place, mark, mark))
+    return two_way([pick.choice("ab") for _ in range(many)], ways)
+
+
+def tree_of_ways(seen):
+    """The signs and roads of the tree of ways in a view, told straight from point 58, and where it is open."""
+    signs = []
+    roads = []
+    ends = []
+
+    def go(inner, came):
+        place = len(signs)
+        signs.append(inner[1])
+        if inner[0] == 0:
+            ends.append(place)
+        for into, out, below in inner[2]:
+            if came == (into,):
+                continue
+            near = go(below, (out,))
+            roads.append((place, near, into, out))
+            roads.append((near, place, out, into))
+        return place
+
+    go(seen, None)
+    return signs, roads, ends
+
+
+def slow_door_view(seen):
+    """Of a view: whether the tree of its ways is a two-way net in which it is the first place's."""
+    signs, roads, _ = tree_of_ways(seen)
+    from samefromhere.shapes import is_two_way
+    from samefromhere.views import view
+    net = Net(signs, roads)
+    return is_two_way(net) and view(net, 0, seen[0]) == seen
