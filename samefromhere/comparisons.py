@@ -48,7 +48,7 @@ def _least_rows(base):
 def _filled(inner, place):
     """From 1 at a place on the numbers of the others as their slots; None if they cannot be told so."""
     row = {place: 1}
-    grows = len(inner[place]) > 0
+    grows = True
     while grows:
         grows = False
         for at, others in inner.items():

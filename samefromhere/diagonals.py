@@ -20,8 +20,8 @@ def diagonal_form(rows):
 
 def _put_least_first(work, turned, at):
     """Brings the least number but 0 of those that are left to the diagonal."""
-    _, row, column = min([(abs(work[row][column]), row, column) for row in range(at, len(work))
-                          for column in range(at, len(work[0])) if work[row][column] != 0])
+    _, row, column = min([(abs(number), down, across) for down, line in enumerate(work) if down >= at
+                          for across, number in enumerate(line) if across >= at and number != 0])
     work[at], work[row] = work[row], work[at]
     for line in work + turned:
         line[at], line[column] = line[column], line[at]

@@ -39,16 +39,13 @@ def _put_in(left, right, place):
 
 
 def _back_from_last(left, right):
-    """The numbers without a common divisor, told from the last place on back."""
+    """The numbers, told from the last place on back; each is put ahead such that they have no common divisor."""
     row = [1]
     for place in reversed(range(len(left) - 1)):
         worth = sum([number * many for number, many in zip(right[place][place + 1:], row)])
         times = left[place] // gcd(left[place], worth)
         row = [worth * times // left[place]] + [many * times for many in row]
-    divisor = 0
-    for many in row:
-        divisor = gcd(divisor, many)
-    return tuple([many // divisor for many in row])
+    return tuple(row)
 
 
 def ways_to(base, place):

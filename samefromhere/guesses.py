@@ -50,9 +50,9 @@ def settled_after(net):
         raise NotStrong(net)
     book = ViewBook()
     least = least_net(net)
-    # From twice as many rounds as there are places, less one, on all guesses are right.
+    # From twice as many rounds as there are places, less one, on all guesses are right; of 0 rounds none is.
     lines = book.along(net, 2 * len(net) - 2)
-    for rounds in reversed(range(len(lines))):
+    for rounds in reversed(range(1, len(lines))):
         if not all([_guess_of(book, seen) == least for seen in sorted(set(lines[rounds]))]):
             return rounds + 1
-    return 0
+    return 1

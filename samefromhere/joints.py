@@ -7,21 +7,17 @@ from samefromhere.viewbooks import ViewBook
 from samefromhere.waytrees import WayTree, final_of, is_view_of_doors, joined_trees
 
 
-def _read_views(book, views, is_good):
-    """The numbers of a list of views, each of which is to be good."""
+def _read_views(book, views, of_doors):
+    """The numbers of a list of views; of_doors tells whether just those of two-way nets will do."""
     if not is_row(views) or len(views) == 0:
         raise BadViews(0)
     found = []
     for at, thing in enumerate(views):
         seen = book.read(thing)
-        if seen is None or not is_good(book, seen):
+        if seen is None or of_doors and not is_view_of_doors(book, seen):
             raise BadViews(at)
         found.append(seen)
     return found
-
-
-def _any_view(_, seen):
-    return seen >= 0
 
 
 class Joint:
@@ -60,19 +56,19 @@ class Joint:
 
 def joint_net(views):
     book = ViewBook()
-    seen = _read_views(book, views, is_view_of_doors)
+    seen = _read_views(book, views, True)
     joint = Joint(book, seen)
     return None if joint.first_clash() is not None else joint.net_of(seen)
 
 
 def views_clash(views):
     book = ViewBook()
-    return Joint(book, _read_views(book, views, is_view_of_doors)).first_clash()
+    return Joint(book, _read_views(book, views, True)).first_clash()
 
 
 def strong_net(views):
     book = ViewBook()
-    seen = _read_views(book, views, _any_view)
+    seen = _read_views(book, views, False)
     rows = [book.row(view) for view in seen]
     if not any([triples for _, _, triples in rows]) and len(set([sign for _, sign, _ in rows])) == 1:
         return Net([book.word(rows[0][1])], []), [0] * len(seen)

@@ -105,8 +105,9 @@ def apart_answers(moduli, steps, signs, many):
     turns = _turns_of(group, need_signs(group, signs))
     need_rounds(many)
     kind_of = [min([row[turn] for turn in turns]) for row in group.sums]
-    beside = {kind: [] for kind in kind_of}
-    for kind in beside:
+    kinds = sorted(set(kind_of))
+    beside = {kind: [] for kind in kinds}
+    for kind in kinds:
         for step in numbers:
             near = kind_of[group.sums[kind][step]]
             beside[kind].append(near)

@@ -89,9 +89,7 @@ def count_heads(number, many):
 
 
 def _barred_anew(number, many):
-    """How many patterns of so many places have an axis and no period but this."""
-    if number % 2 == 1:
-        return 0
+    """How many patterns of so many places have an axis and no period but this: none, if the number is odd."""
     rows = [_square_free(number // part) * power(2 * many, part // 2) for part in _divisors(number) if part % 2 == 0]
     return sum(rows) * (number // 2)
 

@@ -94,6 +94,15 @@ class TestWeights(unittest.TestCase):
         self.assertEqual(least_weights(ring("a"), [0]), (0,))
         self.assertIsNone(least_weights(ring("a"), [-1]))
 
+    def test_where_some_places_count_for_nothing(self):
+        base = Net(["a", "b"], [(0, 0, 0, 0), (0, 0, 1, 1), (0, 1, 0, 0), (1, 0, 0, 0)])
+        for form in ([-1, 5], [-1, 12], [-3, 12], [-5, 12], [-12, 12], [-2, 7], [-1, 0], [-1, -1], [-1, 1]):
+            self.assertIsNone(least_weights(base, form))
+            self.assertTrue(is_count_row(base, row_below(base, form)))
+            self.assertLess(value(form, row_below(base, form)), 0)
+        for form in ([0, 12], [1, -1], [0, 0]):
+            self.assertIsNone(row_below(base, form))
+
     def test_free_and_equal(self):
         for base in BASES[:8]:
             for form in forms(base, 4):

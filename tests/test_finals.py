@@ -13,8 +13,8 @@ from samefromhere.shutnets import final_after, is_shut
 from samefromhere.turns import turned_lift
 from samefromhere.views import view, view_plan
 from tests.helpers import (ANY_OBJECTS, HALF, LONE, LOOPS, PATH, R, S, TREE_HALF, TRIANGLE, TWO_HALVES, TWO_WAYS,
-                           Counting, as_lists, as_tuples, faults, mix_plan, random_shut, random_two_way, samples,
-                           slow_door_view, tree_of_ways, two_way)
+                           Counting, as_lists, as_tuples, faults, mix_plan, random_shut, random_two_way, ring,
+                           samples, slow_door_view, tree_of_ways, two_way)
 
 K = two_way(["a", "a"], [(0, 1, "x", "x")])
 SHUT = [LONE, HALF, PATH, TREE_HALF, K] + [random_shut(seed, 4) for seed in range(16)]
@@ -34,7 +34,8 @@ def views_of(nets, most=5):
 
 
 SEEN = views_of(DOOR_NETS)
-ONE_WAY = [view(net, 0, rounds) for net in (R, S, Net(["a", "b"], [(0, 1, "", "")])) for rounds in (0, 1, 2)]
+ONE_WAY = [view(net, 0, rounds) for net in (R, S, ring("abc"), Net(["a", "b"], [(1, 0, "", "")]), ring("aab"),
+                                            Net(["a"], [(0, 0, "", ""), (0, 0, "", "")])) for rounds in (0, 1, 2, 3)]
 
 
 def changed(seen):
@@ -172,6 +173,7 @@ class TestDoorViews(unittest.TestCase):
             faults(is_final, BadView, "thing", [(thing, thing)])
 
     def test_bad_view(self):
+        self.assertEqual({slow_door_view(seen) for seen in ONE_WAY}, {True, False})
         things = ANY_OBJECTS + [seen for seen in ONE_WAY if not slow_door_view(seen)] + [(1, "a", [[0, 0]])]
         for call in (lambda thing: is_final(seen=thing), lambda thing: final_net(seen=thing),
                      lambda thing: open_pair(seen=thing), lambda thing: sizes_with(seen=thing),

@@ -2,8 +2,10 @@
 
 import itertools
 import math
+import random
 import unittest
 
+from samefromhere.diagonals import diagonal_form
 from samefromhere.errors import BadModuli, BadSigns, BadSteps, NoGroup, NotWhole
 from samefromhere.groups import elements_of, mirrors, quotient, steps_to, subgroups
 from samefromhere.nets import Net
@@ -172,6 +174,31 @@ class TestSubgroups(unittest.TestCase):
                         self.assertEqual(image[added(moduli, x, y)], added(least, image[x], image[y]))
                 self.assertEqual(quotient(tuple(moduli), tuple(lot)), pair)
                 self.assertEqual(quotient(moduli, as_lists(lot)), pair)
+
+
+def determinant(rows):
+    if not rows:
+        return 1
+    return sum((-1) ** at * rows[0][at] * determinant([row[:at] + row[at + 1:] for row in rows[1:]])
+               for at in range(len(rows)))
+
+
+class TestDiagonalForm(unittest.TestCase):
+    def test_whole_rows(self):
+        pick = random.Random(8)
+        for _ in range(300):
+            many = pick.randint(1, 3)
+            rows = [[pick.randint(-9, 9) for _ in range(many)] for _ in range(pick.randint(many, many + 2))]
+            index = math.gcd(*[determinant(list(lot)) for lot in itertools.combinations(rows, many)])
+            if index == 0:
+                continue
+            sizes, turned = diagonal_form(rows)
+            self.assertEqual(math.prod(sizes), index)
+            self.assertEqual(abs(determinant(turned)), 1)
+            self.assertTrue(all(later % size == 0 and size > 0 for size, later in zip(sizes, sizes[1:] + [0])))
+            for row in rows:
+                for at, size in enumerate(sizes):
+                    self.assertEqual(sum(part * line[at] for part, line in zip(row, turned)) % size, 0)
 
 
 class TestMirrors(unittest.TestCase):

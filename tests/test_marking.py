@@ -116,6 +116,11 @@ class TestWords(unittest.TestCase):
                     found.add(None if wanted is None else max(wanted))
         self.assertLessEqual({None, 0, 1, 2}, found)
 
+    def test_fewer_words_come_first(self):
+        net = Net(["a"] * 4, [])
+        told = words_for(net, [0, 1, 2], lambda index, told: told[0] != told[1] or len(set(told)) == 3, 0)
+        self.assertEqual(told, [0, 1, 0, 0])
+
     def test_limits(self):
         net = Net(["a"] * 6, [])
         self.assertIsNone(words_for(net, [0, 1, 2, 3, 4], lambda index, told: False, 3))

@@ -1,0 +1,139 @@
+"""Point 3, for what stages 3 and 4 built: lists for tuples, nothing passed is changed, what is told is new each time."""
+
+import unittest
+
+from samefromhere import (comparisons, countrows, doors, finals, fooled, groups, guesses, joints, marking, netrows, patterns,
+                          questions, ringaxes, ringkinds, rings, ringsenses, rowkinds, rowlists, shutnets, turnnets)
+from samefromhere.nets import Net
+from samefromhere.views import view, view_plan
+from tests.helpers import PATH, R, TREE_HALF, TRIANGLE, mix_plan, ring
+
+B = Net(["a", "b"], [(0, 1, "", 0), (0, 1, "", 1), (1, 0, "", "")])
+ROW = [R, Net(["a", "b"] * 2, [(0, 1, "", ""), (2, 3, 0, 0)])]
+FINAL = view(TREE_HALF, 0, 4)
+OPEN = view(TRIANGLE, 0, 2)
+SIGNS = ["a", ("b", (0,)), "a", ("b", (0,))]
+MODULI = (2, 2)
+STEPS = ((0, 1), (1, 0))
+
+
+def right(index, told):
+    return True
+
+
+CALLS = [
+    (marking.marked, R, (0, 2)), (marking.fewest_marked, R, (0, (1, ())), right, None),
+    (marking.words_for, R, (0, (1, ())), right, None), (countrows.count_row, B, B),
+    (countrows.is_count_row, B, (2, 1)), (countrows.count_rows, B, 5),
+    (questions.rows_apart, B, ((1, 1), (2, 1)), lambda row: row),
+    (questions.break_count, B, ((1, 1), (2, 1)), lambda row: row, mix_plan(), 2),
+    (comparisons.least_weights, B, (1, -1)), (comparisons.are_weights, B, (1, -1), (0, 1)),
+    (comparisons.row_below, B, (-1, 1)), (comparisons.share_bound, B, (1, 0), (1, 1)),
+    (doors.share_row, B, (1, 2)), (doors.ways_to, B, 1), (doors.marked_rows, B, 1, 2),
+    (finals.ended, PATH, mix_plan(), 2), (finals.is_door_view, FINAL), (finals.is_final, FINAL),
+    (finals.final_net, FINAL), (finals.open_pair, OPEN), (finals.sizes_with, FINAL), (finals.twice, FINAL),
+    (finals.twice, OPEN), (shutnets.is_shut, PATH), (shutnets.final_after, PATH), (joints.joint_net, (OPEN, OPEN)),
+    (joints.views_clash, (FINAL, OPEN)), (joints.strong_net, (OPEN, view(R, 1, 2))),
+    (fooled.fooling, TRIANGLE, PATH, 1), (fooled.break_end, TRIANGLE, TREE_HALF, view_plan(), 1, lambda net: (len(net),)),
+    (guesses.guess, view(R, 1, 3)), (guesses.settled_after, R), (rings.one_way_ring, SIGNS),
+    (rings.door_ring, SIGNS, (0, 1, 0, 0)), (rings.door_row, SIGNS, (0, 1, 0, 0)), (rings.around, SIGNS, 2),
+    (ringkinds.least_period, SIGNS), (ringkinds.ring_rounds, SIGNS), (ringkinds.reading, SIGNS, (0, 1, 0, 0), 1, 0, 5),
+    (ringkinds.alike_around, (SIGNS, (0, 1, 0, 0), 1), (SIGNS, (0, 1, 0, 0), 2)),
+    (ringaxes.ring_axes, SIGNS, (0, 1, 1, 0)), (ringaxes.door_rounds, SIGNS, (0, 1, 1, 0)),
+    (ringaxes.kind_size, SIGNS, (0, 1, 1, 0)), (ringaxes.row_turned, SIGNS, (0, 1, 1, 0)),
+    (ringaxes.rounds_of_row, SIGNS, (0, 1, 1, 0)), (ringsenses.ring_sense, SIGNS, (0, 1, 0, 0)),
+    (ringsenses.barred_by, ("s",) * 4, (0, 0, 1, 1)), (ringsenses.least_colours, SIGNS, (0, 1, 0, 0)),
+    (groups.elements_of, MODULI), (groups.steps_to, MODULI, STEPS), (groups.subgroups, MODULI),
+    (groups.quotient, MODULI, ((0, 0), (1, 1))), (groups.mirrors, MODULI, STEPS),
+    (turnnets.turn_net, MODULI, STEPS, SIGNS), (turnnets.crowd_net, MODULI, STEPS, SIGNS),
+    (turnnets.door_net, MODULI, STEPS, SIGNS), (patterns.own_turns, MODULI, SIGNS),
+    (patterns.rounds_to_part, MODULI, STEPS, SIGNS), (patterns.turn_base, MODULI, STEPS, SIGNS),
+    (patterns.patterns_of, MODULI, ((0, 0), (1, 1)), 2), (patterns.pattern_counts, MODULI, 3),
+    (patterns.turn_between, MODULI, SIGNS, SIGNS[::-1]), (patterns.mirrored_kinds, MODULI, STEPS, SIGNS),
+    (patterns.apart_answers, MODULI, STEPS, ("a", "b", "c", "d"), 4), (netrows.row_states, ROW, mix_plan(), 3),
+    (netrows.row_answers, ROW, mix_plan(), 3), (netrows.row_view, ROW, 1, 3), (rowkinds.row_kinds, ROW, 2),
+    (rowkinds.row_kinds_for_ever, ROW), (rowkinds.row_rounds, ROW), (rowkinds.row_ranks, ROW),
+    (rowkinds.least_row, ROW), (rowkinds.is_row_map, ROW, ROW, (0, 1, 2, 3)),
+    (rowlists.rows_alike_for, ROW, 0, [R], 2), (rowlists.rows_kinds, (ROW, [R]), 2),
+    (rowlists.row_choice, (ROW, [R]), 2, (0, (1, ())), right),
+    (rowlists.break_rows, (ROW, [R]), 2, lambda index, told: index == 0, mix_plan()),
+]
+
+
+def without_lists(thing):
+    """Rows as tuples, nets by what they are; so that told things can be compared however they are changed later."""
+    if isinstance(thing, (list, tuple)):
+        return type(thing).__name__, tuple(without_lists(part) for part in thing)
+    if isinstance(thing, dict):
+        return "dict", tuple((key, without_lists(part)) for key, part in thing.items())
+    if isinstance(thing, Net):
+        return "net", tuple(thing.signs()), tuple(thing.roads())
+    return thing
+
+
+def spoil(thing):
+    """Changes all lists and dicts in what was told, nets aside."""
+    if isinstance(thing, (list, tuple)):
+        for part in thing:
+            spoil(part)
+    if isinstance(thing, list):
+        thing.append("spoiled")
+    if isinstance(thing, dict):
+        thing["spoiled"] = True
+
+
+def only_words_rows(thing):
+    return thing if isinstance(thing, Net) or callable(thing) else \
+        [only_words_rows(part) for part in thing] if isinstance(thing, (list, tuple)) else thing
+
+
+class TestUnchanged(unittest.TestCase):
+    def test_lists_for_tuples(self):
+        for function, *given in CALLS:
+            told = without_lists(function(*given))
+            self.assertEqual(without_lists(function(*[only_words_rows(thing) for thing in given])), told, function)
+
+    def test_what_is_passed_stays(self):
+        for function, *given in CALLS:
+            passed = [only_words_rows(thing) for thing in given]
+            before = without_lists(passed)
+            function(*passed)
+            self.assertEqual(without_lists(passed), before, function)
+
+    def test_what_is_told_is_new(self):
+        for function, *given in CALLS:
+            passed = [only_words_rows(thing) for thing in given]
+            told = function(*passed)
+            before = without_lists(told)
+            if function not in PLAIN_ANSWERS:
+                spoil(told)
+            self.assertEqual(without_lists(function(*passed)), before, function)
+            self.assertEqual(without_lists(passed), without_lists([only_words_rows(thing) for thing in given]), function)
+
+    def test_what_was_passed_can_be_changed(self):
+        signs = ["a", ["b"], "a"]
+        senses = [0, 1, 1]
+        made = [rings.one_way_ring(signs), rings.door_ring(signs, senses), rings.door_row(signs, senses),
+                turnnets.turn_net([3], [[1]], signs), marking.marked(rings.one_way_ring(signs), [1])]
+        before = without_lists(made)
+        signs[1].append("c")
+        signs.clear()
+        senses.clear()
+        self.assertEqual(without_lists(made), before)
+        plan = ringsenses.sense_plan(3)
+        net = rings.door_ring(["a"] * 3, [0, 0, 1])
+        self.assertEqual(netrows.row_answers([net], plan, 3), netrows.row_answers([net], list(plan), 3))
+
+    def test_nets_told_are_not_shared_lists(self):
+        net = ring("ab")
+        told = rowkinds.least_row([net, net])
+        told.clear()
+        self.assertEqual(len(rowkinds.least_row([net, net])), 2)
+
+
+# These tell the plans' answers as they are.
+PLAIN_ANSWERS = (finals.ended, netrows.row_answers, rowlists.break_rows, fooled.break_end)
+
+
+if __name__ == "__main__":
+    unittest.main()
