@@ -6,7 +6,7 @@ from samefromhere.finals import ends_of
 from samefromhere.joints import Joint
 from samefromhere.plans import Asked, need_rounds
 from samefromhere.shapes import need_two_way_joined
-from samefromhere.viewbooks import ViewBook
+from samefromhere.views import ViewBook
 
 
 def fooling(one, other, rounds):

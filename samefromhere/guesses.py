@@ -4,7 +4,7 @@ from samefromhere.errors import BadView, NotStrong
 from samefromhere.leastnets import least_net
 from samefromhere.nets import Net
 from samefromhere.shapes import is_strong
-from samefromhere.viewbooks import ViewBook
+from samefromhere.views import ViewBook
 
 
 def guess(seen):

@@ -2,9 +2,9 @@
 
 from samefromhere.basics import is_row
 from samefromhere.errors import BadViews
+from samefromhere.finals import WayTree, final_of, is_view_of_doors, joined_trees
 from samefromhere.nets import Net
-from samefromhere.viewbooks import ViewBook
-from samefromhere.waytrees import WayTree, final_of, is_view_of_doors, joined_trees
+from samefromhere.views import ViewBook
 
 
 def _read_views(book, views, of_doors):

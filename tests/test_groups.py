@@ -5,9 +5,8 @@ import math
 import random
 import unittest
 
-from samefromhere.diagonals import diagonal_form
 from samefromhere.errors import BadModuli, BadSigns, BadSteps, NoGroup, NotWhole
-from samefromhere.groups import elements_of, mirrors, quotient, steps_to, subgroups
+from samefromhere.groups import diagonal_form, elements_of, mirrors, quotient, steps_to, subgroups
 from samefromhere.nets import Net
 from samefromhere.patterns import (apart_answers, mirrored_kinds, own_turns, pattern_counts, patterns_of, rounds_to_part,
                                    turn_base, turn_between)
