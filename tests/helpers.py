@@ -48,9 +48,8 @@ def random_net(seed, most=6, signs=2, road_words=2, roads=9):
     return Net([pick.choice(words) for _ in range(many)], rows)
 
 
-def random_two_way(seed, most=5):
-    """A joined two-way net with doors numbered place by place, perhaps with half loops."""
-    pick = random.Random(seed)
+def random_tree(pick, most):
+    """How many places, what tells a new door of a place, and the ways of a tree."""
     many = pick.randint(1, most)
     doors = [0] * many
     ways = []
@@ -62,6 +61,13 @@ def random_two_way(seed, most=5):
     for place in range(1, many):
         near = pick.randrange(place)
         ways.append((near, place, door(near), door(place)))
+    return many, door, ways
+
+
+def random_two_way(seed, most=5):
+    """A joined two-way net with doors numbered place by place, perhaps with half loops."""
+    pick = random.Random(seed)
+    many, door, ways = random_tree(pick, most)
     for _ in range(pick.randint(0, 2)):
         one, other = pick.randrange(many), pick.randrange(many)
         if one == other and pick.random() < 0.5:
@@ -258,17 +264,7 @@ def list_pairs(many, good, is_good, both_ways=False):
 def random_shut(seed, most=5):
     """A tree with doors numbered place by place, every second time with one half loop."""
     pick = random.Random(seed)
-    many = pick.randint(1, most)
-    doors = [0] * many
-    ways = []
-
-    def door(place):
-        doors[place] += 1
-        return doors[place] if pick.random() < 0.7 else "d" * doors[place]
-
-    for place in range(1, many):
-        near = pick.randrange(place)
-        ways.append((near, place, door(near), door(place)))
+    many, door, ways = random_tree(pick, most)
     if seed % 2:
         place = pick.randrange(many)
         mark = door(place)
