@@ -27,18 +27,18 @@ def alike_pairs(one, other):
 
 
 def is_closed(one, other, thing):
-    pairs = _read_pairs(one, other, thing)
+    pairs = read_pairs(len(one), len(other), thing)
     if pairs is None:
         return False
-    near = _roads_to(one)
-    away = _roads_to(other)
     signs = one.sign_keys()
     far_signs = other.sign_keys()
-    return all([signs[p] == far_signs[q] and _can_match(near[p], away[q], pairs) for p, q in pairs])
+    if not all([signs[p] == far_signs[q] for p, q in pairs]):
+        return False
+    return are_closed(pairs, one.road_keys(), other.road_keys())
 
 
-def _read_pairs(one, other, thing):
-    """The dict of unlike pairs of places that a list holds, None if it is none of such."""
+def read_pairs(many, far_many, thing):
+    """The dict of unlike pairs of two places, of so many each, that a list holds, None if it is none of such."""
     if not is_row(thing):
         return None
     pairs = {}
@@ -46,18 +46,20 @@ def _read_pairs(one, other, thing):
         if not is_row(pair) or len(pair) != 2:
             return None
         p, q = pair
-        if not is_place_of(len(one), p) or not is_place_of(len(other), q) or (p, q) in pairs:
+        if not is_place_of(many, p) or not is_place_of(far_many, q) or (p, q) in pairs:
             return None
         pairs[p, q] = True
     return pairs
 
 
-def _roads_to(net):
-    """For each place the list of (sender, out, into) of the roads to it, marks as flat keys."""
-    roads = [[] for _ in range(len(net))]
-    for sender, place, out, into in net.road_keys():
-        roads[place].append((sender, out, into))
-    return roads
+def are_closed(pairs, near, away):
+    """Whether the roads to both places of each pair can be told off against one another, marks being the same and
+    senders a pair; near and away are all roads, with flat keys."""
+    return all([_can_match(_roads_to(near, p), _roads_to(away, q), pairs) for p, q in pairs])
+
+
+def _roads_to(roads, place):
+    return [(sender, out, into) for sender, other, out, into in roads if other == place]
 
 
 def _can_match(near, away, pairs):

@@ -1,6 +1,8 @@
 """What all parts of the package stand on: kinds of objects, words and their order, lists, lots, pairings."""
 
-from samefromhere.errors import NetError
+from math import gcd
+
+from samefromhere.errors import NetError, NoWord
 
 # A list that holds itself has no end; so what lies deeper than any word of a caller is no word.
 DEEPEST = 5000
@@ -99,6 +101,50 @@ def word_key(word):
     return key
 
 
+class WordTable:
+    """Gives unlike words numbers, so that they are told apart at once."""
+
+    def __init__(self):
+        self._numbers = {}
+        self._words = []
+        self._keys = []
+
+    def number(self, thing):
+        """The number of a word, None for what is none."""
+        read = read_word(thing)
+        if read is None:
+            return None
+        word, key = read
+        if key not in self._numbers:
+            self._numbers[key] = len(self._words)
+            self._words.append(word)
+            self._keys.append(key)
+        return self._numbers[key]
+
+    def word(self, number):
+        return self._words[number]
+
+    def key(self, number):
+        return self._keys[number]
+
+    def taken(self, thing):
+        """The number of what a function told that is to tell a word."""
+        number = self.number(thing)
+        if number is None:
+            raise NoWord(thing)
+        return number
+
+
+def first_fault(thing, is_good):
+    """None, or the index of the first thing in a list that is not good."""
+    if not is_row(thing):
+        return 0
+    for at, item in enumerate(thing):
+        if not is_good(item):
+            return at
+    return None
+
+
 def list_fault(thing, many, is_good):
     """None, or the index that tells what is wrong with a list that is to have so many things."""
     if not is_row(thing):
@@ -111,6 +157,15 @@ def list_fault(thing, many, is_good):
     return None
 
 
+def numbers_fault(thing, many, is_good):
+    """None, or the index that tells what is wrong with a list of so many: the first that is not good, else the lesser
+    one of both lengths."""
+    fault = first_fault(thing, is_good)
+    if fault is not None or len(thing) == many:
+        return fault
+    return min(len(thing), many)
+
+
 def unlike_fault(thing, is_good):
     """None, or the index of the first thing in a list that is not good or stood before."""
     if not is_row(thing):
@@ -121,6 +176,46 @@ def unlike_fault(thing, is_good):
     return None
 
 
+def power(number, times):
+    found = 1
+    for _ in range(times):
+        found *= number
+    return found
+
+
+def fraction(top, bottom):
+    """The fraction in lowest terms, bottom being above 0."""
+    divisor = gcd(top, bottom)
+    return top // divisor, bottom // divisor
+
+
+def words_fault(thing):
+    """None, or the index of the first thing in a list of one or more that is no word or stood before."""
+    if not is_row(thing) or len(thing) == 0:
+        return 0
+    known = {}
+    for at, item in enumerate(thing):
+        read = read_word(item)
+        if read is None or read[1] in known:
+            return at
+        known[read[1]] = True
+    return None
+
+
+class WordList:
+    """A list of unlike words."""
+
+    def __init__(self, words):
+        read = [read_word(word) for word in words]
+        self.words = tuple([word for word, _ in read])
+        self._places = {key: at for at, (_, key) in enumerate(read)}
+
+    def number_of(self, thing):
+        """The index of the word that any object is, None if it is none of these."""
+        read = read_word(thing)
+        return None if read is None else self._places.get(read[1])
+
+
 def numbered(things):
     """The dict from each unlike thing to its number, from 0 on, ascending."""
     return {thing: at for at, thing in enumerate(sorted(set(things)))}
@@ -129,6 +224,14 @@ def numbered(things):
 def numbers_of(things):
     """For each thing its number among the unlike ones, ascending."""
     order = numbered(things)
+    return [order[thing] for thing in things]
+
+
+def first_labels(things):
+    """For each thing its number among the unlike ones, as they come."""
+    order = {}
+    for thing in things:
+        order.setdefault(thing, len(order))
     return [order[thing] for thing in things]
 
 
@@ -167,6 +270,14 @@ def row_after(row, bound):
     if at < 0:
         return None
     return row[:at] + (row[at] + 1,) + (0,) * (len(row) - at - 1)
+
+
+def all_rows(many, bound):
+    """The tuples of so many numbers below bound, as rows compare."""
+    found = [()]
+    for _ in range(many):
+        found = [row + (number,) for row in found for number in range(bound)]
+    return found
 
 
 def can_pair(options, many):

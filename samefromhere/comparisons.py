@@ -1,22 +1,10 @@
 """Forms: what is known of numbers beforehand, by weights or by count rows that speak against it."""
 
 from itertools import combinations
-from math import gcd
 
-from samefromhere.basics import is_integer, is_number, is_row
+from samefromhere.basics import fraction, is_integer, is_number, numbers_fault
 from samefromhere.countrows import need_base, targets_of
 from samefromhere.errors import BadForm
-
-
-def numbers_fault(thing, many, is_good):
-    """None, or the index that tells what is wrong with a list of numbers: the first that is none, else the lesser
-    one of both lengths."""
-    if not is_row(thing):
-        return 0
-    for at, number in enumerate(thing):
-        if not is_good(number):
-            return at
-    return None if len(thing) == many else min(len(thing), many)
 
 
 def need_form(base, form):
@@ -118,8 +106,8 @@ def share_bound(base, one, other):
             return None
         if bottom > 0 and (best is None or top * best[1] > best[0] * bottom):
             best = (top, bottom)
-    divisor = gcd(best[0], best[1])
-    return best[0] // divisor, best[1] // divisor
+    top, bottom = best
+    return fraction(top, bottom)
 
 
 def _need_measure(base, form):

@@ -12,11 +12,11 @@ from samefromhere.shapes import is_strong
 
 
 def need_base(thing):
-    if not _is_base(thing):
+    if not is_base(thing):
         raise BadBase(thing)
 
 
-def _is_base(thing):
+def is_base(thing):
     if not isinstance(thing, Net) or len(thing.roads()) == 0 or not is_strong(thing):
         return False
     return len(kinds_for_ever(thing)) == len(thing)
@@ -32,9 +32,17 @@ def targets_of(base):
 
 def count_row(net, base):
     need_base(base)
+    row = row_over(net, base)
+    if row is None:
+        raise NotOver()
+    return row
+
+
+def row_over(net, base):
+    """The count row of a net, None if it is not over the base."""
     near, away = joint_rows(net, base)[-1]
     if not is_strong(net) or sorted(set(near)) != sorted(away):
-        raise NotOver()
+        return None
     return tuple([near.count(rank) for rank in away])
 
 

@@ -2,8 +2,7 @@
 
 from math import gcd
 
-from samefromhere.basics import is_integer
-from samefromhere.comparisons import numbers_fault
+from samefromhere.basics import is_integer, numbers_fault
 from samefromhere.countrows import need_base, targets_of
 from samefromhere.errors import BadDoors
 from samefromhere.nets import need_place

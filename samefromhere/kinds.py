@@ -14,9 +14,9 @@ def next_ranks(heard, row):
     return numbers_of(pairs)
 
 
-def refined(net, first):
-    """The rows of ranks behind 0, 1, .. rounds, from this first one on, until a round parts nothing more."""
-    heard = heard_roads(net)
+def refined(heard, first):
+    """The rows of ranks behind 0, 1, .. rounds, from this first one on, until a round parts nothing more, heard being
+    what comes to each place."""
     rows = [first]
     while True:
         later = next_ranks(heard, rows[-1])
@@ -27,7 +27,7 @@ def refined(net, first):
 
 def rank_rows(net):
     """The rows of ranks of the net's places, from the signs on."""
-    return refined(net, numbers_of(net.sign_keys()))
+    return refined(heard_roads(net), numbers_of(net.sign_keys()))
 
 
 def ranks_behind(rows, rounds):

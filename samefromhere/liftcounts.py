@@ -3,17 +3,11 @@
 from itertools import permutations
 from math import comb, factorial
 
+from samefromhere.basics import power
 from samefromhere.joins import need_base_for_turns, ways_round
 from samefromhere.lifts import need_copies
 from samefromhere.shapes import need_two_way_joined
 from samefromhere.turns import half_loops, need_size, need_turns, road_pairs
-
-
-def power(number, times):
-    found = 1
-    for _ in range(times):
-        found *= number
-    return found
 
 
 def count_picks(base, copies):

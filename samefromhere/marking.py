@@ -14,10 +14,10 @@ def marked(net, places):
     fault = unlike_fault(places, lambda thing: is_place_of(many, thing))
     if fault is not None:
         raise BadPlaces(fault)
-    return _numbered_signs(net, [1 if place in places else 0 for place in range(many)])
+    return numbered_signs(net, [1 if place in places else 0 for place in range(many)])
 
 
-def _numbered_signs(net, numbers):
+def numbered_signs(net, numbers):
     return Net(list(zip(net.signs(), numbers)), net.roads())
 
 
@@ -33,7 +33,7 @@ class Trial:
 
     def can_be(self, numbers):
         """Whether there is a right choice with these numbers."""
-        row = kind_rows([_numbered_signs(self._net, numbers)], self._rounds)[0]
+        row = kind_rows([numbered_signs(self._net, numbers)], self._rounds)[0]
         key = tuple(row)
         if key not in self._known:
             self._known[key] = len(right_rows(self._wish, [row], [0], 1)) > 0

@@ -1,6 +1,6 @@
 """Alike places of lists of nets."""
 
-from samefromhere.basics import grouped
+from samefromhere.basics import first_labels, grouped
 from samefromhere.kinds import rank_rows, ranks_behind, rounds_needed
 from samefromhere.madenets import beside, need_nets
 from samefromhere.plans import need_rounds
@@ -9,13 +9,11 @@ from samefromhere.plans import need_rounds
 def kind_numbers(nets, row):
     """For each net the list of the numbers of its places' kinds, which are numbered by their first pairs; row has
     the ranks of the places of all nets side by side."""
-    numbers = {}
-    for rank in row:
-        numbers.setdefault(rank, len(numbers))
+    numbers = first_labels(row)
     found = []
     ahead = 0
     for net in nets:
-        found.append([numbers[rank] for rank in row[ahead:ahead + len(net)]])
+        found.append(numbers[ahead:ahead + len(net)])
         ahead += len(net)
     return found
 

@@ -39,8 +39,16 @@ class Net(Thing):
 
 
 def read_signs(signs):
-    """The pairs (word, flat key) of a list of signs."""
-    if not is_row(signs) or len(signs) == 0:
+    """The pairs (word, flat key) of a list of signs, not empty."""
+    read = read_any_signs(signs)
+    if not read:
+        raise BadSigns(0)
+    return read
+
+
+def read_any_signs(signs):
+    """The pairs (word, flat key) of a list of signs, perhaps empty."""
+    if not is_row(signs):
         raise BadSigns(0)
     read = [read_word(sign) for sign in signs]
     for at, pair in enumerate(read):

@@ -5,6 +5,7 @@ from samefromhere.errors import BadParting, NotEven
 from samefromhere.kinds import refined
 from samefromhere.leastnets import pressed_by, roads_to
 from samefromhere.nets import is_place_of
+from samefromhere.views import heard_roads
 
 
 def _parting_fault(net, thing):
@@ -70,7 +71,7 @@ def is_even(net, thing):
 def made_even(net, parting):
     need_parting(net, parting)
     first = numbers_of(list(zip(labels_of(net, parting), net.sign_keys())))
-    return grouped(refined(net, first)[-1])
+    return grouped(refined(heard_roads(net), first)[-1])
 
 
 def need_even(net, parting):

@@ -1,8 +1,7 @@
 """Patterns of signs on the elements of a group, and what turns leave as it is."""
 
-from samefromhere.basics import lots_of
+from samefromhere.basics import lots_of, power
 from samefromhere.groups import Group, all_mirrors, all_subgroups, need_steps, need_subgroup, quotient_by
-from samefromhere.liftcounts import power
 from samefromhere.plans import need_rounds
 from samefromhere.turnnets import need_signs
 

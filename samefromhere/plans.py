@@ -1,12 +1,12 @@
 """Plans, run on nets by rounds."""
 
-from samefromhere.basics import is_function, is_number, is_row, read_word
-from samefromhere.errors import BadNumber, BadPlan, NoWord
+from samefromhere.basics import WordTable, is_function, is_number, is_row
+from samefromhere.errors import BadNumber, BadPlan
 from samefromhere.nets import marks
 
 
-def need_plan(plan):
-    if not is_row(plan) or len(plan) != 4 or not all([is_function(part) for part in plan]):
+def need_functions(plan, many):
+    if not is_row(plan) or len(plan) != many or not all([is_function(part) for part in plan]):
         raise BadPlan(plan)
 
 
@@ -15,72 +15,70 @@ def need_rounds(rounds):
         raise BadNumber(rounds)
 
 
-class Asked:
-    """A plan whose functions are asked for equal arguments once; unlike words have numbers here."""
+class Functions(WordTable):
+    """The functions of a plan, asked for equal arguments once; unlike words have numbers here."""
 
-    def __init__(self, plan):
-        need_plan(plan)
-        self._plan = tuple(plan)
-        self._numbers = {}
-        self._words = []
-        self._keys = []
-        self._begun = {}
-        self._said = {}
-        self._next = {}
-        self._told = {}
+    def __init__(self, plan, many):
+        need_functions(plan, many)
+        WordTable.__init__(self)
+        self._functions = tuple(plan)
+        self._known = {}
 
-    def number(self, thing):
-        """The number of a word, None for what is none."""
-        read = read_word(thing)
-        if read is None:
-            return None
-        word, key = read
-        if key not in self._numbers:
-            self._numbers[key] = len(self._words)
-            self._words.append(word)
-            self._keys.append(key)
-        return self._numbers[key]
+    def _answer(self, at, given):
+        function = self._functions[at]
+        words = [self.word(number) for number in given]
+        return function(*words)
 
-    def word(self, number):
-        return self._words[number]
+    def word_told(self, at, *given):
+        """The number of the word that a function tells of words with these numbers."""
+        if (at, given) not in self._known:
+            self._known[at, given] = self.taken(self._answer(at, given))
+        return self._known[at, given]
 
-    def key(self, number):
-        return self._keys[number]
+    def thing_told(self, at, *given):
+        """Any object that a function tells of words with these numbers."""
+        if (at, given) not in self._known:
+            self._known[at, given] = self._answer(at, given)
+        return self._known[at, given]
 
-    def _taken(self, thing):
-        number = self.number(thing)
-        if number is None:
-            raise NoWord(thing)
-        return number
-
-    def begin(self, sign):
-        """The state, a number, in which a place with this sign, a number, begins."""
-        if sign not in self._begun:
-            begin = self._plan[0]
-            self._begun[sign] = self._taken(begin(self._words[sign]))
-        return self._begun[sign]
-
-    def say(self, state, out):
-        if (state, out) not in self._said:
-            say = self._plan[1]
-            self._said[state, out] = self._taken(say(self._words[state], self._words[out]))
-        return self._said[state, out]
-
-    def hear(self, state, pairs):
-        """The next state behind the pairs (into, letter) of numbers."""
+    def heard_told(self, at, ahead, pairs, behind):
+        """The number of the word that a function tells of words, of the pairs (into, letter) that are heard, and of
+        words behind these."""
         keys = self._keys
         heard = tuple(sorted(pairs, key=lambda pair: (keys[pair[0]], keys[pair[1]])))
-        if (state, heard) not in self._next:
-            hear = self._plan[2]
-            words = tuple([(self._words[into], self._words[letter]) for into, letter in heard])
-            self._next[state, heard] = self._taken(hear(self._words[state], words))
-        return self._next[state, heard]
+        key = (at, ahead, heard, behind)
+        if key not in self._known:
+            function = self._functions[at]
+            words = [self.word(number) for number in ahead]
+            words.append(tuple([(self.word(into), self.word(letter)) for into, letter in heard]))
+            words.extend([self.word(number) for number in behind])
+            self._known[key] = self.taken_state(function(*words))
+        return self._known[key]
+
+    def taken_state(self, thing):
+        """The number of the word that is told of what is heard."""
+        return self.taken(thing)
+
+
+class Asked(Functions):
+    """A plan; states and letters are numbers of words."""
+
+    def __init__(self, plan):
+        Functions.__init__(self, plan, 4)
+
+    def begin(self, sign):
+        """The state in which a place with this sign begins."""
+        return self.word_told(0, sign)
+
+    def say(self, state, out):
+        return self.word_told(1, state, out)
+
+    def hear(self, state, pairs):
+        """The next state behind the pairs (into, letter)."""
+        return self.heard_told(2, (state,), pairs, ())
 
     def tell(self, state):
-        if state not in self._told:
-            tell = self._plan[3]
-            self._told[state] = tell(self._words[state])
-        return self._told[state]
+        return self.thing_told(3, state)
 
 
 def begun_states(asked, net):

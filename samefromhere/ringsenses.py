@@ -1,7 +1,6 @@
 """One way round for all places of a ring, colours of its neighbours, and how many rings there are."""
 
-from samefromhere.basics import word_key
-from samefromhere.liftcounts import power
+from samefromhere.basics import power, word_key
 from samefromhere.ringaxes import axes_of
 from samefromhere.ringkinds import period_of
 from samefromhere.rings import need_pattern

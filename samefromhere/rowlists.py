@@ -2,7 +2,7 @@
 
 from math import lcm
 
-from samefromhere.basics import grouped, is_row
+from samefromhere.basics import WordList, grouped, is_row
 from samefromhere.errors import BadNetRows
 from samefromhere.madenets import beside
 from samefromhere.netlists import kind_numbers
@@ -10,7 +10,7 @@ from samefromhere.netrows import answers_of_row, need_net_row, net_row_fault
 from samefromhere.nets import need_place
 from samefromhere.plans import Asked, need_rounds
 from samefromhere.rowkinds import ranks_by_round
-from samefromhere.wishes import read_answers, right_rows
+from samefromhere.wishes import need_answers, right_rows
 
 
 def _side_by_side(rows):
@@ -77,7 +77,8 @@ class RowWish:
 def row_choice(rows, rounds, answers, right):
     kept = need_net_rows(rows)
     need_rounds(rounds)
-    wish = RowWish([word for word, _ in read_answers(answers)], right)
+    need_answers(answers)
+    wish = RowWish(WordList(answers).words, right)
     found = right_rows(wish, _kind_rows(kept, rounds), list(range(len(kept))), 1)
     if not found:
         return None

@@ -39,9 +39,13 @@ def reached(many, pairs, start):
     return found
 
 
-def need_two_way_joined(net):
+def need_two_way(net):
     if not is_two_way(net):
         raise NotTwoWay(net)
+
+
+def need_two_way_joined(net):
+    need_two_way(net)
     if not is_joined(net):
         raise NotJoined(net)
 

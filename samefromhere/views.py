@@ -1,6 +1,6 @@
 """Views: what could come to a place in so many rounds; written, and by numbers."""
 
-from samefromhere.basics import is_number, numbered, numbers_of, read_word, word_key
+from samefromhere.basics import WordTable, is_number, numbered, numbers_of, read_word, word_key
 from samefromhere.errors import BadView
 from samefromhere.nets import need_place
 from samefromhere.plans import Asked, need_rounds
@@ -159,25 +159,14 @@ def _node(item, triples):
     return item[1], [(into, out, key[2]) for (into, out, _), key in zip(item[2], triples)]
 
 
-class ViewBook:
+class ViewBook(WordTable):
     """Keeps unlike views, each once; a view's number is above those of the views in it."""
 
     def __init__(self):
-        self._words = []
-        self._word_numbers = {}
+        WordTable.__init__(self)
         self._rows = []
         self._view_numbers = {}
         self._cuts = {}
-
-    def word_number(self, word):
-        key = word_key(word)
-        if key not in self._word_numbers:
-            self._word_numbers[key] = len(self._words)
-            self._words.append(word)
-        return self._word_numbers[key]
-
-    def word(self, number):
-        return self._words[number]
 
     def row(self, seen):
         """The view with this number: (rounds, sign, tuple of triples (into, out, view)), words and views as numbers."""
@@ -207,13 +196,13 @@ class ViewBook:
         return below[0]
 
     def _put_node(self, rounds, node, below):
-        triples = [(self.word_number(into), self.word_number(out), below[child]) for into, out, child in node[1]]
-        return self.put(rounds, self.word_number(node[0]), triples)
+        triples = [(self.number(into), self.number(out), below[child]) for into, out, child in node[1]]
+        return self.put(rounds, self.number(node[0]), triples)
 
     def along(self, net, rounds):
         """The lists of the numbers of the places' views of 0, 1, .. so many rounds."""
-        signs = [self.word_number(sign) for sign in net.signs()]
-        heard = [[(self.word_number(road[3]), self.word_number(road[2]), sender) for _, _, sender, road in row]
+        signs = [self.number(sign) for sign in net.signs()]
+        heard = [[(self.number(road[3]), self.number(road[2]), sender) for _, _, sender, road in row]
                  for row in heard_roads(net)]
         lines = [[self.put(0, sign, []) for sign in signs]]
         for done in range(rounds):

@@ -2,7 +2,7 @@
 
 from itertools import combinations
 
-from samefromhere.basics import is_function, is_row, read_word, row_after
+from samefromhere.basics import WordList, is_function, row_after, words_fault
 from samefromhere.errors import BadAnswers, BadRight
 from samefromhere.kinds import rank_rows
 from samefromhere.madenets import beside, need_nets
@@ -10,38 +10,23 @@ from samefromhere.netlists import kind_numbers, kind_rows
 from samefromhere.plans import need_rounds
 
 
-def read_answers(answers):
-    """The pairs (word, flat key) of a list of unlike words."""
-    if not is_row(answers) or len(answers) == 0:
-        raise BadAnswers(0)
-    found = []
-    known = {}
-    for at, answer in enumerate(answers):
-        read = read_word(answer)
-        if read is None or read[1] in known:
-            raise BadAnswers(at)
-        known[read[1]] = True
-        found.append(read)
-    return found
+def need_answers(answers):
+    fault = words_fault(answers)
+    if fault is not None:
+        raise BadAnswers(fault)
 
 
-class Wish:
+class Wish(WordList):
     """A wish on a list of nets; right is asked for equal answers once."""
 
     def __init__(self, nets, answers, right):
         self.nets = need_nets(nets)
-        read = read_answers(answers)
+        need_answers(answers)
+        WordList.__init__(self, answers)
         if not is_function(right):
             raise BadRight(right)
-        self.words = tuple([word for word, _ in read])
-        self._numbers = {key: at for at, (_, key) in enumerate(read)}
         self._right = right
         self._told = {}
-
-    def number_of(self, thing):
-        """The number of the answer that any object is, None if it is none."""
-        read = read_word(thing)
-        return None if read is None else self._numbers.get(read[1])
 
     def is_right(self, index, numbers):
         """Whether the places of the net with this index may give the answers with these numbers."""

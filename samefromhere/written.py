@@ -7,7 +7,7 @@ from samefromhere.madenets import need_nets
 
 def written(nets, word):
     kept = need_nets(nets)
-    read = _read_written(word, len(kept))
+    read = read_written(word, len(kept))
     if read is None:
         raise BadWritten(word)
     name, more = read
@@ -25,7 +25,7 @@ def written(nets, word):
     return [()] + [(mark,) for mark in _unlike_words(out_marks)], _trees(kept)
 
 
-def _read_written(thing, many):
+def read_written(thing, many):
     """The pair (name, what stands behind it) of a word for so many nets, None for what is no such word."""
     if isinstance(thing, str):
         return (thing, None) if thing in ("head", "names", "tree") else None

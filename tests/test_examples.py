@@ -1,12 +1,16 @@
-"""The examples of points 15, 25, 35, 46, 56, 66, 77, 87, 96, word by word."""
+"""The examples of points 15, 25, 35, 46, 56, 66, 77, 87, 96, 106, 116, 126, word by word."""
 
 import unittest
 
 from samefromhere.alike import alike_for, alike_pairs
+from samefromhere.coins import best_worth
 from samefromhere.comparisons import least_weights, row_below, share_bound
 from samefromhere.countrows import count_rows, is_count_row
+from samefromhere.courses import keeping, must_part, parting_course
 from samefromhere.doors import marked_rows, share_row
+from samefromhere.eventruns import quiet_run
 from samefromhere.finals import final_net, is_final, sizes_with, twice
+from samefromhere.finders import fewest_moves
 from samefromhere.groups import quotient, subgroups
 from samefromhere.guesses import guess, settled_after
 from samefromhere.joins import joined_lift, lone_place, strong_lift
@@ -16,6 +20,7 @@ from samefromhere.liftcounts import count_joined, count_turns, count_unlike
 from samefromhere.lifts import lift
 from samefromhere.madenets import with_signs
 from samefromhere.marking import fewest_marked, words_for
+from samefromhere.meetings import meeting_plan, two_walk
 from samefromhere.netlists import kinds_of, rounds_of
 from samefromhere.nets import Net
 from samefromhere.partings import even_partings
@@ -28,8 +33,12 @@ from samefromhere.rowkinds import row_kinds
 from samefromhere.shapes import is_joined, is_strong
 from samefromhere.sheets import holds, parting_sheet, sheet_rounds
 from samefromhere.shutnets import final_after
+from samefromhere.throwing import chances_right
+from samefromhere.throws import throw_counts
 from samefromhere.turnnets import crowd_net, turn_net
+from samefromhere.unlikes import ring_throws, sides_for, unlike_chance
 from samefromhere.views import view
+from samefromhere.walks import parting_row, walk_seen
 from samefromhere.wishes import barring, choices, first_choice, rounds_for
 from samefromhere.written import written
 
@@ -146,3 +155,58 @@ class TestExamples(unittest.TestCase):
     def test_point_96(self):
         row = [Net(["a"] * 3, [(0, 1, "", "")]), Net(["a"] * 3, [(1, 2, "", "")])]
         self.assertEqual(row_kinds(row, 1), [[0, 2], [1]])
+        self.assertEqual([parting_course(row, 0, 2), parting_course(row, 0, 1)], [[1], [0]])
+        self.assertIsNone(must_part(row, 0, 1))
+        self.assertEqual(keeping(row, 0, 1), ([], [1]))
+
+    def test_point_106(self):
+        roads = [(0, 1, "r", "l"), (1, 2, "r", "l")]
+        it = Net(["a", "a", "a"], roads + [(other, one, into, out) for one, other, out, into in roads])
+        self.assertEqual(walk_seen(it, 0, ["r", None]), [("a", ("r",), None), ("a", ("l", "r"), "l"),
+                                                        ("a", ("l", "r"), None)])
+        self.assertEqual([parting_row(it, 0, 1), parting_row(it, 0, 0)], [[], None])
+        self.assertEqual(fewest_moves([it]), 0)
+        roads = [(place, (place + 1) % 4, "r", "l") for place in range(4)]
+        roads += [(other, one, into, out) for one, other, out, into in roads]
+        ring = Net(["a"] * 4, roads)
+        plan, moves = meeting_plan(ring)
+        self.assertEqual(len(two_walk(ring, plan, 0, 1, moves + 9)), moves + 10)
+        ring = Net(["b", "a", "a", "a"], roads)
+        plan, moves = meeting_plan(ring)
+        for one in range(4):
+            for other in range(4):
+                near, far = two_walk(ring, plan, one, other, moves)[-1]
+                self.assertEqual(near, far)
+        self.assertEqual(fewest_moves([ring]), 2)
+
+    def test_point_116(self):
+        r = Net(["a"] * 4, [(place, (place + 1) % 4, "", "") for place in range(4)])
+        self.assertEqual([(len(parting), number) for parting, number in throw_counts(r, 2)], [(1, 2), (2, 2), (4, 12)])
+        self.assertEqual(unlike_chance(r, 2), (3, 4))
+        self.assertEqual(sides_for(r, (9, 10)), 4)
+        self.assertEqual(ring_throws(4, 1, 2), {1: 2, 2: 2, 4: 12})
+        answers, right = written([r], "head")
+        self.assertEqual([best_worth([r], answers, right, 2), best_worth([r], answers, right, 1)], [(3, 4), (0, 1)])
+
+        def hear(state, heard, number):
+            own, other = state[1], heard[0][1]
+            if state[0] == "done":
+                return state
+            return ("on", number) if own == other else ("done", 1 if own > other else 0)
+
+        plan = (lambda sign, number: ("on", number), lambda state, out: state[1], hear,
+                lambda state: state[1] if state[0] == "done" else None)
+        two = Net(["a", "a"], [(0, 1, "", ""), (1, 0, "", "")])
+        answers, right = written([two], "head")
+        self.assertEqual(chances_right(two, answers, right, plan, 2, 2), [(0, 1), (1, 2), (3, 4)])
+
+    def test_point_126(self):
+        n = Net([5, 3, 4], [(0, 2, "", ""), (1, 2, "", "")])
+        begin, put = (lambda sign: (sign, "new")), (lambda state, out: [state[0]] if state[1] == "new" else [])
+        last = (begin, put, lambda state, into, letter: (letter, "old"), lambda state: state[0])
+        greatest = (begin, put, lambda state, into, letter: (max(state[0], letter), "old"), lambda state: state[0])
+        for in_turn in (True, False):
+            self.assertEqual(quiet_run(n, last, [], in_turn), ((5, 3, 3), 5))
+            self.assertEqual(quiet_run(n, last, [0, 0, 0, 1], in_turn), ((5, 3, 5), 5))
+            for picks in ([], [0, 0, 0, 1], [2, 1, 0, 0]):
+                self.assertEqual(quiet_run(n, greatest, picks, in_turn)[0], (5, 3, 5))

@@ -59,6 +59,20 @@ ROWS = {
                 "is_row_map(row, base, thing)",
     "rowlists": "rows_alike_for(one, place, other, far) rows_kinds(rows, rounds) "
                 "row_choice(rows, rounds, answers, right) break_rows(rows, rounds, right, plan)",
+    "courses": "course_kinds(row, course) parting_course(row, one, other) finest_course(row) "
+               "orders_parting(row, one, other) must_part(row, one, other) keeping(row, one, other) "
+               "is_keeping(row, one, other, thing)",
+    "walks": "walk_seen(net, place, row) walk_places(net, place, row) parting_row(net, one, other)",
+    "meetings": "two_walk(net, plan, one, other, moves) meeting_plan(net)",
+    "finders": "search(net, place, searcher, moves) finder(nets) fewest_moves(nets)",
+    "mappers": "marked_search(net, place, searcher, turns) mapper() lone_mapper()",
+    "throws": "thrown(net, throw) throws_of(net, sides) throws_with(net, parting, sides) throw_counts(net, sides)",
+    "unlikes": "unlike_chance(net, sides) sides_for(net, chance) ring_throws(many, period, sides)",
+    "coins": "is_coin_choice(nets, answers, sides, thing) worth_of(nets, answers, right, sides, choice) "
+             "best_worth(nets, answers, right, sides) best_coins(nets, answers, right, sides) "
+             "plan_worth(nets, answers, right, plan, rounds, sides)",
+    "throwing": "chances(net, plan, sides, rounds) chances_right(net, answers, right, plan, sides, rounds)",
+    "eventruns": "quiet_run(net, plan, picks, in_turn) asleep_or_waiting(net, plan, picks, in_turn)",
 }
 
 

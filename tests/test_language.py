@@ -207,7 +207,7 @@ class TestNames(unittest.TestCase):
 class TestStatements(unittest.TestCase):
     def test_l6_l7_what_never_stands(self):
         barred = (ast.Global, ast.AsyncFunctionDef, ast.Await, ast.Div, ast.GeneratorExp, ast.Yield, ast.YieldFrom,
-                  ast.Try, ast.AnnAssign, ast.With, ast.Match, ast.Set, ast.NamedExpr, ast.JoinedStr, ast.Pow)
+                  ast.AnnAssign, ast.With, ast.Match, ast.Set, ast.NamedExpr, ast.JoinedStr, ast.Pow)
         for stem, tree in TREES.items():
             for node in ast.walk(tree):
                 self.assertNotIsInstance(node, barred, (stem, getattr(node, "lineno", 0)))
@@ -228,6 +228,61 @@ class TestStatements(unittest.TestCase):
             for node in ast.walk(tree):
                 if isinstance(node, ast.Raise):
                     self.assertRegex(called(node.exc), "^[A-Z]", stem)
+
+    def test_l19_l6_own_errors_are_caught_and_finally_is_simple(self):
+        own = {node.name for tree in TREES.values() for node in ast.walk(tree) if isinstance(node, ast.ClassDef)}
+        simple = (ast.Name, ast.Attribute, ast.Constant)
+        for stem, tree in TREES.items():
+            for node in ast.walk(tree):
+                if isinstance(node, ast.Try):
+                    for handler in node.handlers:
+                        self.assertIn(getattr(handler.type, "id", None), own, stem)
+                    for row in node.finalbody:
+                        self.assertIsInstance(row, ast.Assign, stem)
+                        self.assertIsInstance(row.value, simple, stem)
+                        for target in row.targets:
+                            self.assertIsInstance(target, (ast.Name, ast.Attribute), stem)
+
+    def test_l18_error_classes(self):
+        """An error class stands right beneath NetError, in its file, or beneath Exception."""
+        for stem, tree in TREES.items():
+            for node in tree.body:
+                if isinstance(node, ast.ClassDef):
+                    for base in node.bases:
+                        self.assertNotIn(base.id, ("StopIteration", "AttributeError", "BaseException"), stem)
+                    if stem == "errors" and node.name != "NetError":
+                        self.assertEqual([base.id for base in node.bases], ["NetError"])
+
+    def test_l18_no_name_is_a_method_and_an_attribute(self):
+        kinds = {node.name: node for tree in TREES.values() for node in tree.body if isinstance(node, ast.ClassDef)}
+
+        def methods(name):
+            if name not in kinds:
+                return set()
+            found = {row.name for row in kinds[name].body if isinstance(row, ast.FunctionDef)}
+            return found.union(*[methods(base.id) for base in kinds[name].bases])
+
+        for name, tree in kinds.items():
+            rows = [row.name for row in tree.body if isinstance(row, ast.FunctionDef)]
+            self.assertEqual(len(rows), len(set(rows)), name)
+            kept = {node.attr for node in ast.walk(tree) if isinstance(node, ast.Attribute)
+                    and isinstance(node.ctx, ast.Store) and getattr(node.value, "id", None) == "self"}
+            self.assertFalse(kept & methods(name), name)
+
+    def test_l12_names_that_are_barred(self):
+        barred = re.compile(r"^_(wall|pe_|dcw_|enum_|cm_|twin_re_|lay_|law_|stub_|sre|WallAttr)|"
+                            r"^_(cold|tuplegetter|outside|record|written_out|member_names)[0-9_]*$")
+        for stem, tree in TREES.items():
+            for node in ast.walk(tree):
+                for name in (getattr(node, "id", ""), getattr(node, "attr", ""), getattr(node, "arg", ""),
+                             getattr(node, "name", "")):
+                    self.assertIsNone(barred.search(name or ""), (stem, name))
+
+    def test_l27_escapes(self):
+        """No escapes but those of a line feed, a tab, a backslash and quotes."""
+        for path in FILES:
+            for line in path.read_text().split("\n"):
+                self.assertIsNone(re.search(r"\\[^nt\\'\"]", line.replace("\\\\", "")), (path, line))
 
     def test_l23_l24_iterated_at_once(self):
         for stem, tree in TREES.items():

@@ -1,9 +1,10 @@
-"""Point 3, for what stages 3 and 4 built: lists for tuples, nothing passed is changed, what is told is new each time."""
+"""Point 3, for what stages 3 to 5 built: lists for tuples, nothing passed is changed, what is told is new each time."""
 
 import unittest
 
-from samefromhere import (comparisons, countrows, doors, finals, fooled, groups, guesses, joints, marking, netrows, patterns,
-                          questions, ringaxes, ringkinds, rings, ringsenses, rowkinds, rowlists, shutnets, turnnets)
+from samefromhere import (coins, comparisons, countrows, courses, doors, eventruns, finals, finders, fooled, groups, guesses,
+                          joints, mappers, marking, meetings, netrows, patterns, questions, ringaxes, ringkinds, rings,
+                          ringsenses, rowkinds, rowlists, shutnets, throwing, throws, turnnets, unlikes, walks)
 from samefromhere.nets import Net
 from samefromhere.views import view, view_plan
 from tests.helpers import PATH, R, TREE_HALF, TRIANGLE, mix_plan, ring
@@ -20,6 +21,15 @@ STEPS = ((0, 1), (1, 0))
 def right(index, told):
     return True
 
+
+def goer(seen):
+    return ("go", seen[-1][1][-1]) if len(seen) < 3 else ["told", [seen[0][0]]]
+
+
+THROWER = (lambda sign, number: number, lambda state, out: [state], lambda state, heard, number: (state + number) % 2,
+           lambda state: ["t", []] if state else 0)
+EVENTS = (lambda sign: (sign, 0), lambda state, out: [[state]] if state[1] < 2 else [],
+          lambda state, into, letter: (state[0], state[1] + 1), lambda state: state)
 
 CALLS = [
     (marking.marked, R, (0, 2)), (marking.fewest_marked, R, (0, (1, ())), right, None),
@@ -57,6 +67,21 @@ CALLS = [
     (rowlists.rows_alike_for, ROW, 0, [R], 2), (rowlists.rows_kinds, (ROW, [R]), 2),
     (rowlists.row_choice, (ROW, [R]), 2, (0, (1, ())), right),
     (rowlists.break_rows, (ROW, [R]), 2, lambda index, told: index == 0, mix_plan()),
+    (courses.course_kinds, ROW, (0, 1, 1)), (courses.parting_course, ROW, 0, 2), (courses.finest_course, ROW),
+    (courses.orders_parting, ROW, 0, 2), (courses.must_part, ROW, 0, 1), (courses.keeping, ROW, 0, 2),
+    (courses.is_keeping, ROW, 0, 2, ((), (1, 0))), (walks.walk_seen, PATH, 0, ("r", None, "r")),
+    (walks.walk_places, PATH, 0, ("r", None, "r")), (walks.parting_row, PATH, 0, 2),
+    (meetings.two_walk, PATH, lambda seen: seen[-1][1][0], 0, 1, 3), (finders.search, PATH, 0, goer, 3),
+    (finders.fewest_moves, (PATH, TREE_HALF)), (mappers.marked_search, PATH, 0, mappers.mapper(), 200),
+    (finders.search, TREE_HALF, 0, mappers.lone_mapper(), 50), (throws.thrown, R, (0, 1, 2, 3)), (throws.throws_of, PATH, 2),
+    (throws.throws_with, R, ((0, 2), (1, 3)), 3), (throws.throw_counts, R, 3), (unlikes.unlike_chance, R, 2),
+    (unlikes.sides_for, R, (1, 2)), (unlikes.ring_throws, 6, 2, 3),
+    (coins.is_coin_choice, (PATH, R), (0, (1, ())), 1, ({(0, 0, 0): (0, 0, 0)}, {(0,) * 4: ((1, ()), 0) * 2})),
+    (coins.worth_of, (PATH, R), (0, (1, ())), right, 1, ({(0, 0, 0): (0, 0, 0)}, {(0,) * 4: ((1, ()), 0) * 2})),
+    (coins.best_worth, (PATH,), (0, (1, ())), right, 2), (coins.best_coins, (PATH,), (0, (1, ())), right, 2),
+    (coins.plan_worth, (PATH, R), (0, (1, ())), right, mix_plan()[:3] + (lambda state: 0,), 2, 2),
+    (throwing.chances, B, THROWER, 2, 2), (throwing.chances_right, B, (0, ("t", ())), right, THROWER, 2, 2),
+    (eventruns.quiet_run, B, EVENTS, (0, 5, 7), False), (eventruns.asleep_or_waiting, B, EVENTS, (0, 5, 7), True),
 ]
 
 
@@ -131,8 +156,8 @@ class TestUnchanged(unittest.TestCase):
         self.assertEqual(len(rowkinds.least_row([net, net])), 2)
 
 
-# These tell the plans' answers as they are.
-PLAIN_ANSWERS = (finals.ended, netrows.row_answers, rowlists.break_rows, fooled.break_end)
+# These tell the answers of plans and searchers as they are.
+PLAIN_ANSWERS = (finals.ended, netrows.row_answers, rowlists.break_rows, fooled.break_end, finders.search)
 
 
 if __name__ == "__main__":
