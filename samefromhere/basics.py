@@ -208,12 +208,12 @@ class WordList:
     def __init__(self, words):
         read = [read_word(word) for word in words]
         self.words = tuple([word for word, _ in read])
-        self._places = {key: at for at, (_, key) in enumerate(read)}
+        self._order = {key: at for at, (_, key) in enumerate(read)}
 
     def number_of(self, thing):
         """The index of the word that any object is, None if it is none of these."""
         read = read_word(thing)
-        return None if read is None else self._places.get(read[1])
+        return None if read is None else self._order.get(read[1])
 
 
 def numbered(things):

@@ -54,30 +54,30 @@ class WayTree:
     """The ways in a view of doors, as the places of a two-way net in which place 0 has this view."""
 
     def __init__(self, book, view):
-        self.signs = []
-        self.roads = []
+        self.tree_signs = []
+        self.tree_roads = []
         # The first place at which the view ends though one may go on, and a door that it can have besides.
         self.end = None
         self.door = None
         came = [(view, NO_DOOR)]
-        while len(self.signs) < len(came):
-            place = len(self.signs)
+        while len(self.tree_signs) < len(came):
+            place = len(self.tree_signs)
             inner, door = came[place]
             rounds, sign, triples = book.row(inner)
             if rounds == 0 and self.end is None:
                 self.end = place
                 self.door = 1 if door != NO_DOOR and book.word(door) == 0 else 0
-            self.signs.append(book.word(sign))
+            self.tree_signs.append(book.word(sign))
             for into, out, child in triples:
                 if into != door:
-                    self.roads.extend(both_ways(place, len(came), book.word(into), book.word(out)))
+                    self.tree_roads.extend(both_ways(place, len(came), book.word(into), book.word(out)))
                     came.append((child, out))
 
     def is_final(self):
         return self.end is None
 
     def net(self):
-        return Net(self.signs, self.roads)
+        return Net(self.tree_signs, self.tree_roads)
 
 
 def both_ways(one, other, out, into):
@@ -93,8 +93,8 @@ def joined_trees(trees):
     for at, tree in enumerate(trees):
         begin = len(signs)
         places.append(begin)
-        signs.extend(tree.signs)
-        roads.extend([(begin + one, begin + other, out, into) for one, other, out, into in tree.roads])
+        signs.extend(tree.tree_signs)
+        roads.extend([(begin + one, begin + other, out, into) for one, other, out, into in tree.tree_roads])
         roads.extend(both_ways(0, begin + tree.end, at, tree.door))
     return Net(signs, roads), places
 

@@ -102,7 +102,7 @@ class LotSearch:
         """The lot of one who sees this at the beginning, () for what is never seen."""
         return self._begun.get(look_key(sign, doors), ())
 
-    def door(self, lot):
+    def best_door(self, lot):
         """The mark of the best door of a lot of several spots."""
         return self._words[self._best[lot][1]]
 
@@ -131,7 +131,7 @@ def finder(nets):
             if len(lot) > 1:
                 lot = known.later(lot, later)
         if len(lot) > 1:
-            return "go", known.door(lot)
+            return "go", known.best_door(lot)
         return ("here", *known.spots[lot[0]]) if lot else None
 
     return searcher

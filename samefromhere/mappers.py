@@ -157,14 +157,19 @@ class Chart:
         return Net(self._signs, self._roads)
 
 
-def mapper():
+def _searcher_by(way):
+    """A searcher that goes over its way from the beginning, as far as it has seen what comes there."""
     def searcher(seen):
         try:
-            return _map_by_mark(Tape(seen))
+            return way(Tape(seen))
         except TurnWanted as wanted:
             return wanted.turn
 
     return searcher
+
+
+def mapper():
+    return _searcher_by(_map_by_mark)
 
 
 def _map_by_mark(tape):
@@ -204,13 +209,7 @@ def _look_for_mark(tape, chart, place, seen):
 
 
 def lone_mapper():
-    def searcher(seen):
-        try:
-            return _least_by_ways(Tape(seen))
-        except TurnWanted as wanted:
-            return wanted.turn
-
-    return searcher
+    return _searcher_by(_least_by_ways)
 
 
 def _least_by_ways(tape):

@@ -69,7 +69,7 @@ def _row_to_find(known, doors, kind):
     sign, shown, came = doors.seen(spot, None)
     lot = known.begun(sign, shown)
     while len(lot) > 1:
-        row.append(known.door(lot))
+        row.append(known.best_door(lot))
         spot, came = doors.behind(spot, row[-1])
         lot = known.later(lot, doors.seen(spot, came))
     return row, spot

@@ -4,16 +4,30 @@ from samefromhere.basics import Thing, is_number, is_row, read_word
 from samefromhere.errors import BadRoads, BadSigns, NoPlace
 
 
-class Net(Thing):
+class Ground(Thing):
+    """Places with signs, and roads between them; they never change. Pairs are as those that read them tell."""
+
+    def __init__(self, sign_pairs, road_pairs):
+        self._signs = tuple([word for word, _ in sign_pairs])
+        self._sign_keys = tuple([key for _, key in sign_pairs])
+        self._roads = tuple([road for _, road in road_pairs])
+        self._road_keys = tuple([key for key, _ in road_pairs])
+
+    def sign_keys(self):
+        """The flat keys of the signs."""
+        return list(self._sign_keys)
+
+    def road_keys(self):
+        """The roads, ascending, with flat keys for marks."""
+        return list(self._road_keys)
+
+
+class Net(Ground):
     """A net; it never changes."""
 
     def __init__(self, signs, roads):
         read = read_signs(signs)
-        rows = read_roads(roads, len(read))
-        self._signs = tuple([word for word, _ in read])
-        self._sign_keys = tuple([key for _, key in read])
-        self._roads = tuple([road for _, road in rows])
-        self._road_keys = tuple([key for key, _ in rows])
+        Ground.__init__(self, read, read_roads(roads, len(read)))
 
     def __len__(self):
         return len(self._signs)
@@ -28,14 +42,6 @@ class Net(Thing):
 
     def roads(self):
         return list(self._roads)
-
-    def sign_keys(self):
-        """The flat keys of the signs."""
-        return list(self._sign_keys)
-
-    def road_keys(self):
-        """The roads, ascending, with flat keys for marks."""
-        return list(self._road_keys)
 
 
 def read_signs(signs):

@@ -93,7 +93,7 @@ def parting_sheet(one, place, other, far):
         return None
     writer = SheetWriter(one, other)
     writer.part(place, len(one) + far)
-    return writer.rows()
+    return writer.sheet()
 
 
 class SheetWriter:
@@ -109,7 +109,7 @@ class SheetWriter:
         self._parted = {}
         self._alone = {}
 
-    def rows(self):
+    def sheet(self):
         return list(self._rows)
 
     def _add(self, row):

@@ -5,7 +5,9 @@ import itertools
 import random
 
 from samefromhere.errors import BadSigns, NetError
+from samefromhere.houses import House
 from samefromhere.nets import Net
+from samefromhere.pieces import Piece
 
 
 def ring(signs, mark=""):
@@ -87,9 +89,12 @@ def samples(many=30, **more):
     return [R, S, row, twice, apart, words, ring("abb")] + TWO_WAYS + [random_net(seed, **more) for seed in range(many)]
 
 
+PIECE = Piece(["a", "a"], [(1, 0, "", "")], [[(1, "x")], [(1, "x")]], [(0, "")])
+
 ANY_OBJECTS = [True, False, None, 0, -1, 5, 10 ** 30, "", "a", "net", [], (), {}, {"a": 1}, {0: 0}, [None], (True,),
                [[True]], ["a", [0, [None]]], [0], (0, 0), [[0]], [(0, 0, "", "")], len, max, lambda *rest: 0, LONE, R,
-               NetError(), BadSigns(0), [LONE], [[], {}], ("sign",), ("sign", None), (0, "a"), (1, "a", ((0, 0, 0),))]
+               NetError(), BadSigns(0), [LONE], [[], {}], ("sign",), ("sign", None), (0, "a"), (1, "a", ((0, 0, 0),)),
+               Piece([], [], [], []), PIECE, [PIECE], House(), {"r": House()}, ("kinds", "r"), ("drop", "r")]
 
 
 def not_words():

@@ -1,4 +1,4 @@
-"""The examples of points 15, 25, 35, 46, 56, 66, 77, 87, 96, 106, 116, 126, word by word."""
+"""The examples of points 15, 25, 35, 46, 56, 66, 77, 87, 96, 106, 116, 126, 136, 144, word by word."""
 
 import unittest
 
@@ -8,14 +8,19 @@ from samefromhere.comparisons import least_weights, row_below, share_bound
 from samefromhere.countrows import count_rows, is_count_row
 from samefromhere.courses import keeping, must_part, parting_course
 from samefromhere.doors import marked_rows, share_row
+from samefromhere.errors import WouldChange
 from samefromhere.eventruns import quiet_run
 from samefromhere.finals import final_net, is_final, sizes_with, twice
 from samefromhere.finders import fewest_moves
+from samefromhere.gates import gate_delays, tellings
 from samefromhere.groups import quotient, subgroups
 from samefromhere.guesses import guess, settled_after
+from samefromhere.houses import House
+from samefromhere.housetexts import write_house
 from samefromhere.joins import joined_lift, lone_place, strong_lift
 from samefromhere.kinds import kinds, kinds_for_ever, ranks, rounds_needed
 from samefromhere.leastnets import both_over
+from samefromhere.leastpieces import least_piece
 from samefromhere.liftcounts import count_joined, count_turns, count_unlike
 from samefromhere.lifts import lift
 from samefromhere.madenets import with_signs
@@ -23,8 +28,11 @@ from samefromhere.marking import fewest_marked, words_for
 from samefromhere.meetings import meeting_plan, two_walk
 from samefromhere.netlists import kinds_of, rounds_of
 from samefromhere.nets import Net
+from samefromhere.orders import order_fault, quiet_answers
 from samefromhere.partings import even_partings
 from samefromhere.patterns import own_turns, pattern_counts, rounds_to_part
+from samefromhere.pieces import Piece
+from samefromhere.piecetables import pair_table, piece_parting
 from samefromhere.ringaxes import ring_axes
 from samefromhere.ringkinds import reading, ring_rounds
 from samefromhere.rings import door_ring
@@ -210,3 +218,32 @@ class TestExamples(unittest.TestCase):
             self.assertEqual(quiet_run(n, last, [0, 0, 0, 1], in_turn), ((5, 3, 5), 5))
             for picks in ([], [0, 0, 0, 1], [2, 1, 0, 0]):
                 self.assertEqual(quiet_run(n, greatest, picks, in_turn)[0], (5, 3, 5))
+            self.assertEqual(quiet_answers(n, last, in_turn), [(5, 3, 3), (5, 3, 5)])
+            self.assertEqual(quiet_answers(n, greatest, in_turn), [(5, 3, 5)])
+            self.assertIsNone(order_fault(n, greatest, in_turn))
+
+    def test_point_136(self):
+        p = Piece(["a", "a"], [(1, 0, "", "")], [[(1, "x")], [(1, "x")]], [(0, "")])
+        self.assertEqual(gate_delays(p), [(2, 2)])
+        self.assertEqual(tellings(p, 0, [0, 1], 2), 3)
+        other = Piece(["a", "a"], [(1, 0, "", "")], [[(1, "x")], [(1, "y")]], [(0, "")])
+        self.assertEqual(tellings(other, 0, [0, 1], 2), 4)
+        self.assertEqual(piece_parting(p, other)[2], 3)
+        longer = Piece(["a"] * 3, [(1, 0, "", ""), (1, 2, "", "")], p.parts()[2], [(2, "")])
+        self.assertEqual(pair_table(p, longer), [(0, 2), (1, 1)])
+        self.assertEqual(least_piece(longer), p)
+
+    def test_point_144(self):
+        house = House()
+        house.do(("net", "r", ["a", "a", "a"], [(0, 1, "", ""), (1, 2, "", ""), (2, 0, "", "")]))
+        house.do(("watch", ("rounds", "r")))
+        house.do(("hold", ("alike", "r", 0, "r", 1)))
+        self.assertEqual([row[1] for row in house.watched()], [0, None])
+        with self.assertRaises(WouldChange) as caught:
+            house.do(("sign", "r", 1, "b"))
+        self.assertEqual(caught.exception.question, ("alike", "r", 0, "r", 1))
+        self.assertEqual(house.would(("sign", "r", 1, "b")), [(("rounds", "r"), 0, 1), (("alike", "r", 0, "r", 1), None, -1)])
+        self.assertEqual(house.spare_roads("r"), [])
+        text = write_house(house)
+        self.assertTrue(text.startswith('net r\nplace "a"\n'))
+        self.assertTrue(text.endswith('\nhold ("alike","r",0,"r",1)\n'))

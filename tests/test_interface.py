@@ -73,7 +73,26 @@ ROWS = {
              "plan_worth(nets, answers, right, plan, rounds, sides)",
     "throwing": "chances(net, plan, sides, rounds) chances_right(net, answers, right, plan, sides, rounds)",
     "eventruns": "quiet_run(net, plan, picks, in_turn) asleep_or_waiting(net, plan, picks, in_turn)",
+    "orders": "order_fault(net, plan, in_turn) quiet_answers(net, plan, in_turn) in_any_order(plan, rounds)",
+    "steadyplans": "answers_from(net, plan, begun, rounds) states_behind(net, plan, begun, rounds) steady(plan, rounds)",
+    "beginnings": "steady_rounds(net, answers, right, plan, words) steady_fault(net, answers, right, plan, words)",
+    "pieces": "put_in(around, piece) gate_view(piece, place, rounds)",
+    "piecetables": "pair_table(one, other) is_pair_table(one, other, thing) piece_parting(one, other) "
+                   "is_piece_parting(one, other, thing)",
+    "leastpieces": "places_needed(piece) least_piece(piece)",
+    "joinedpieces": "pieces_beside(pieces) looped(piece, number, gate) cut_out(net, places)",
+    "gates": "gate_delays(piece) gates_alike(piece) tellings(piece, number, letters, rounds)",
+    "housetexts": "write_house(house) read_house(text)",
 }
+
+
+CLASSES = [
+    ("nets", "Net", ["signs", "roads"], "signs(); roads(); __len__(); __eq__(other)"),
+    ("pieces", "Piece", ["signs", "roads", "ins", "outs"], "parts(); __eq__(other)"),
+    ("houses", "House", [], "nets_kept(); watched(); do(deed); is_question(thing); answer(question); would(deed); "
+                            "spare_roads(name); count(); undo(); again(); deeds(); at(number); copy(); trial(work); "
+                            "__eq__(other)"),
+]
 
 
 class TestInterface(unittest.TestCase):
@@ -87,9 +106,15 @@ class TestInterface(unittest.TestCase):
                 self.assertEqual(list(inspect.signature(function).parameters), parameters.split(", ") if parameters
                                  else [], name)
 
-    def test_net(self):
-        from samefromhere.nets import Net
-        self.assertEqual(Net.__module__, "samefromhere.nets")
-        self.assertEqual(list(inspect.signature(Net).parameters), ["signs", "roads"])
-        for name in ("signs", "roads", "__len__", "__eq__"):
-            self.assertIn(name, vars(Net))
+    def test_classes(self):
+        for file, name, parameters, told in CLASSES:
+            module = importlib.import_module("samefromhere." + file)
+            kind = getattr(module, name)
+            self.assertEqual(kind.__module__, module.__name__)
+            self.assertEqual(list(inspect.signature(kind).parameters), parameters)
+            for row in told.split("; "):
+                method, names = row.rstrip(")").split("(")
+                # Each method is defined in the class itself.
+                function = vars(kind)[method]
+                self.assertEqual(list(inspect.signature(function).parameters), ["self"] + [part for part in names.split(", ")
+                                                                                          if part])

@@ -1,13 +1,15 @@
-"""Point 3, for what stages 3 to 5 built: lists for tuples, nothing passed is changed, what is told is new each time."""
+"""Point 3, for what stages 3 to 6 built: lists for tuples, nothing passed is changed, what is told is new each time."""
 
 import unittest
 
-from samefromhere import (coins, comparisons, countrows, courses, doors, eventruns, finals, finders, fooled, groups, guesses,
-                          joints, mappers, marking, meetings, netrows, patterns, questions, ringaxes, ringkinds, rings,
-                          ringsenses, rowkinds, rowlists, shutnets, throwing, throws, turnnets, unlikes, walks)
+from samefromhere import (beginnings, coins, comparisons, countrows, courses, doors, eventruns, finals, finders, fooled, gates,
+                          groups, guesses, joinedpieces, joints, leastpieces, mappers, marking, meetings, netrows, orders,
+                          patterns, pieces, piecetables, questions, ringaxes, ringkinds, rings, ringsenses, rowkinds,
+                          rowlists, shutnets, steadyplans, throwing, throws, turnnets, unlikes, walks)
 from samefromhere.nets import Net
+from samefromhere.pieces import Piece
 from samefromhere.views import view, view_plan
-from tests.helpers import PATH, R, TREE_HALF, TRIANGLE, mix_plan, ring
+from tests.helpers import PATH, PIECE, R, TREE_HALF, TRIANGLE, mix_plan, ring
 
 B = Net(["a", "b"], [(0, 1, "", 0), (0, 1, "", 1), (1, 0, "", "")])
 ROW = [R, Net(["a", "b"] * 2, [(0, 1, "", ""), (2, 3, 0, 0)])]
@@ -30,6 +32,14 @@ THROWER = (lambda sign, number: number, lambda state, out: [state], lambda state
            lambda state: ["t", []] if state else 0)
 EVENTS = (lambda sign: (sign, 0), lambda state, out: [[state]] if state[1] < 2 else [],
           lambda state, into, letter: (state[0], state[1] + 1), lambda state: state)
+
+STEADY = (lambda sign, state, out: [sign, state], lambda sign, state, heard: [[sign], len(heard)],
+          lambda sign, state: (sign, state))
+FEW = (lambda sign, state, out: [state], lambda sign, state, heard: [2] if state == 1 else 1 if heard else 0,
+       lambda sign, state: state)
+OTHER = Piece(["a", "a"], [(1, 0, "", "")], [[(1, "x")], [(1, "y")]], [(0, "")])
+AROUND = Piece(["b", ("c",)], [], [[(1, ("i",))]], [(0, "o"), (1, ("o",))])
+LONGER = Piece(["a"] * 3, [(1, 0, "", ""), (1, 2, "", "")], PIECE.parts()[2], [(2, "")])
 
 CALLS = [
     (marking.marked, R, (0, 2)), (marking.fewest_marked, R, (0, (1, ())), right, None),
@@ -82,6 +92,17 @@ CALLS = [
     (coins.plan_worth, (PATH, R), (0, (1, ())), right, mix_plan()[:3] + (lambda state: 0,), 2, 2),
     (throwing.chances, B, THROWER, 2, 2), (throwing.chances_right, B, (0, ("t", ())), right, THROWER, 2, 2),
     (eventruns.quiet_run, B, EVENTS, (0, 5, 7), False), (eventruns.asleep_or_waiting, B, EVENTS, (0, 5, 7), True),
+    (orders.order_fault, B, EVENTS, True), (orders.quiet_answers, B, EVENTS, False),
+    (steadyplans.answers_from, B, STEADY, ((0, ("x",)), 5), 2), (steadyplans.states_behind, B, STEADY, ((0, ("x",)), 5), 2),
+    (steadyplans.answers_from, B, steadyplans.steady(mix_plan(), 2), ((0, ("x",)), 5), 2),
+    (beginnings.steady_rounds, B, (0, 1, (2,)), right, FEW, (0, 1, (2,))),
+    (beginnings.steady_fault, B, (0, 1), right, FEW, (0, 1, (2,))),
+    (pieces.put_in, AROUND, PIECE), (pieces.gate_view, PIECE, 0, 3), (piecetables.pair_table, PIECE, LONGER),
+    (piecetables.is_pair_table, PIECE, LONGER, ((0, 2), (1, 1))), (piecetables.piece_parting, PIECE, OTHER),
+    (piecetables.is_piece_parting, PIECE, OTHER, piecetables.piece_parting(PIECE, OTHER)),
+    (leastpieces.places_needed, LONGER), (leastpieces.least_piece, LONGER), (joinedpieces.pieces_beside, (PIECE, LONGER)),
+    (joinedpieces.looped, PIECE, 0, 1), (joinedpieces.cut_out, R, (1, 3)), (gates.gate_delays, LONGER),
+    (gates.gates_alike, LONGER), (gates.tellings, LONGER, 0, (0, ("x", ())), 2),
 ]
 
 
@@ -93,6 +114,8 @@ def without_lists(thing):
         return "dict", tuple((key, without_lists(part)) for key, part in thing.items())
     if isinstance(thing, Net):
         return "net", tuple(thing.signs()), tuple(thing.roads())
+    if isinstance(thing, Piece):
+        return "piece", without_lists(thing.parts())
     return thing
 
 
@@ -108,7 +131,7 @@ def spoil(thing):
 
 
 def only_words_rows(thing):
-    return thing if isinstance(thing, Net) or callable(thing) else \
+    return thing if isinstance(thing, (Net, Piece)) or callable(thing) else \
         [only_words_rows(part) for part in thing] if isinstance(thing, (list, tuple)) else thing
 
 
