@@ -76,7 +76,7 @@ class Beginnings:
                 return tuple([self._asked.word(state) for state in row]), many
         return None
 
-    def rounds(self):
+    def rounds_to_right(self):
         """From how many rounds on all is right, where all that comes again is right."""
         rounds = [0] * len(self._rows)
         for at in reversed(self._order):
@@ -88,7 +88,7 @@ class Beginnings:
 
 def steady_rounds(net, answers, right, plan, words):
     beginnings = Beginnings(net, answers, right, plan, words)
-    return None if beginnings.fault() is not None else beginnings.rounds()
+    return None if beginnings.fault() is not None else beginnings.rounds_to_right()
 
 
 def steady_fault(net, answers, right, plan, words):

@@ -56,12 +56,12 @@ def _choice_numbers(nets, rows, words, thing):
             if number is None or found.setdefault(kind, number) != number:
                 return None
     keys = [key for part in thing for key in part]
-    # A truth passes for a number as a key; yet it is none.
-    return found if len(keys) == len(rows) and all([_is_throw(key) for key in keys]) else None
+    # There are all throws and no more; yet as a key a truth passes for a number, which it is not.
+    return found if len(keys) == len(rows) and all([_are_numbers(key) for key in keys]) else None
 
 
-def _is_throw(key):
-    return isinstance(key, tuple) and all([is_number(number) for number in key])
+def _are_numbers(throw):
+    return all([is_number(number) for number in throw])
 
 
 def is_coin_choice(nets, answers, sides, thing):

@@ -20,7 +20,7 @@ class EventPlan(Functions):
     def begin(self, sign):
         return self.word_told(0, sign)
 
-    def put(self, state, out):
+    def letters_put(self, state, out):
         """The tuple of the letters that are put."""
         if (state, out) not in self._put:
             thing = self.thing_told(1, state, out)
@@ -85,7 +85,7 @@ class Events:
             states[place] = self.asked.take(states[place], self._into[road], letters[at])
             waiting[road] = letters[:at] + letters[at + 1:]
         for out, lot in self._doors[place]:
-            letters = self.asked.put(states[place], out)
+            letters = self.asked.letters_put(states[place], out)
             for other in lot:
                 waiting[other] = waiting[other] + letters
         return tuple(states), tuple(waiting)

@@ -64,7 +64,7 @@ class Scanner:
     def is_done(self):
         return self._at == len(self._line)
 
-    def word(self):
+    def next_word(self):
         """The word that stands next, None if there is none."""
         around = []
         while True:
@@ -163,16 +163,16 @@ class TextReader:
             self._nets[self._name] = Net(self._signs, self._roads)
 
     def _takes_place(self, scanner):
-        sign = scanner.word()
+        sign = scanner.next_word()
         if self._name is None or self._roads or self._questions or sign is None or not scanner.is_done():
             return False
         self._signs.append(sign)
         return True
 
     def _takes_road(self, scanner):
-        road = [scanner.word()]
+        road = [scanner.next_word()]
         while len(road) < 4 and scanner.takes(" "):
-            road.append(scanner.word())
+            road.append(scanner.next_word())
         if self._questions or len(road) < 4 or None in road or not scanner.is_done():
             return False
         if not is_place_of(len(self._signs), road[0]) or not is_place_of(len(self._signs), road[1]):
@@ -185,7 +185,7 @@ class TextReader:
         return True
 
     def _takes_question(self, scanner, is_held):
-        word = scanner.word()
+        word = scanner.next_word()
         if word is None or not scanner.is_done() or self.lacks_place():
             return False
         if not self._questions:

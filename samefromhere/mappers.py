@@ -27,7 +27,7 @@ class Tape:
     def here(self):
         return self._seen[self._at]
 
-    def behind(self, *turn):
+    def seen_behind(self, *turn):
         """What was seen behind this turn."""
         if self._at == len(self._seen) - 1:
             raise TurnWanted(turn)
@@ -45,7 +45,7 @@ class MarkedWalk:
         self._came = None
         self._lies = None
 
-    def seen(self):
+    def sees(self):
         return (*self._doors.seen(self._spot, self._came), self._lies == self._spot)
 
     def take_turn(self, turn):
@@ -70,7 +70,7 @@ def marked_search(net, place, searcher, turns):
     walk = MarkedWalk(net, place)
     need_walker(searcher)
     need_rounds(turns)
-    seen = [walk.seen()]
+    seen = [walk.sees()]
     while True:
         thing = searcher(tuple(seen))
         if not _is_marked_turn(thing):
@@ -78,7 +78,7 @@ def marked_search(net, place, searcher, turns):
         if len(seen) > turns:
             return None
         walk.take_turn(thing)
-        seen.append(walk.seen())
+        seen.append(walk.sees())
 
 
 class Chart:
@@ -96,7 +96,7 @@ class Chart:
         self._doors.append([(word_key(mark), mark) for mark in doors])
         return len(self._signs) - 1
 
-    def join(self, one, out, other, into):
+    def link(self, one, out, other, into):
         """Lets these doors of two places lead to one another; perhaps they are one half loop."""
         ways = both_ways(one, other, out, into)
         is_half = one == other and word_key(out) == word_key(into)
@@ -181,15 +181,15 @@ def _map_by_mark(tape):
         row, near = way
         door = chart.open_door(near)
         for mark in row:
-            tape.behind("go", mark)
-        sign, doors, came, _ = tape.behind("go", door)
-        tape.behind("lay")
-        here = _look_for_mark(tape, chart, near, tape.behind("go", came))
+            tape.seen_behind("go", mark)
+        sign, doors, came, _ = tape.seen_behind("go", door)
+        tape.seen_behind("lay")
+        here = _look_for_mark(tape, chart, near, tape.seen_behind("go", came))
         if here is None:
             here = chart.add(sign, doors)
-            tape.behind("go", door)
-        chart.join(near, door, here, came)
-        tape.behind("take")
+            tape.seen_behind("go", door)
+        chart.link(near, door, here, came)
+        tape.seen_behind("take")
         way = chart.way_to_open(here)
     return "map", chart.net(), here
 
@@ -203,7 +203,7 @@ def _look_for_mark(tape, chart, place, seen):
         if not row:
             return None
         mark = row.pop(0)
-        seen = tape.behind("go", mark)
+        seen = tape.seen_behind("go", mark)
         here = chart.led(here, mark)
     return here
 
@@ -222,12 +222,12 @@ def _least_by_ways(tape):
         place, ahead, back = path[-1]
         if ahead:
             mark = ahead.pop(0)
-            sign, doors, came = tape.behind("go", mark)
+            sign, doors, came = tape.seen_behind("go", mark)
             roads.extend(both_ways(place, len(signs), mark, came))
             path.append((len(signs), [door for door in doors if word_key(door) != word_key(came)], came))
             signs.append(sign)
         else:
             path.pop()
             if path:
-                tape.behind("go", back)
+                tape.seen_behind("go", back)
     return "least", least_net(Net(signs, roads))

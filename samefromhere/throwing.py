@@ -12,13 +12,13 @@ class Thrower(Functions):
     def __init__(self, plan):
         Functions.__init__(self, plan, 4)
 
-    def begin(self, sign, number):
+    def begin_thrown(self, sign, number):
         return self.word_told(0, sign, number)
 
     def say(self, state, out):
         return self.word_told(1, state, out)
 
-    def hear(self, state, pairs, number):
+    def hear_thrown(self, state, pairs, number):
         return self.heard_told(2, (state,), pairs, (number,))
 
     def tell(self, state):
@@ -38,7 +38,8 @@ class ThrowingRun:
         self._ways = ways_of(thrower, net)
         self._all = power(sides, len(net))
         signs = [thrower.number(sign) for sign in net.signs()]
-        self.stands = _joined([_counted([thrower.begin(sign, number) for number in self._numbers]) for sign in signs])
+        begun = [[thrower.begin_thrown(sign, number) for number in self._numbers] for sign in signs]
+        self.stands = _joined([_counted(row) for row in begun])
         self.bottom = self._all
 
     def go_on(self):
@@ -60,7 +61,7 @@ class ThrowingRun:
         heard = [[] for _ in stand]
         for one, other, out, into in roads:
             heard[other].append((into, said[one, out]))
-        return [_counted([self._thrower.hear(state, heard[place], number) for number in self._numbers])
+        return [_counted([self._thrower.hear_thrown(state, heard[place], number) for number in self._numbers])
                 for place, state in enumerate(stand)]
 
 

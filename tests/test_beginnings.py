@@ -9,6 +9,8 @@ from samefromhere.beginnings import steady_fault, steady_rounds
 from samefromhere.errors import BadAnswers, BadPlan, BadRight, BadWords, NoState, NoWord
 from samefromhere.nets import Net
 from samefromhere.steadyplans import answers_from, states_behind
+from samefromhere.wishes import first_choice
+from samefromhere.written import written
 from tests.helpers import (ANY_OBJECTS, HALF, LONE, R, S, Counting, as_lists, as_tuples, faults, not_words, random_net, ring)
 from tests.test_wishes import asked_once
 
@@ -107,6 +109,23 @@ class TestSteadyRounds(unittest.TestCase):
         self.assertEqual(steady_fault(LONE, [0, 1, 2, 3], always, turn, [0, 1, 2, 3, 4]), ((4,), 5))
         for thing in (1, "yes", [0], 0, "", None):
             self.assertEqual(steady_rounds(LONE, [0], lambda index, told: thing, stay, [0]), 0 if thing else None)
+
+    def test_wishes_that_no_plan_can_do(self):
+        """What no plan does for ever no steady plan does from all beginnings; what one does is within reach."""
+        met = {True: 0, False: 0}
+        for seed in range(30):
+            net = NETS[seed % len(NETS)]
+            words = [0, 1, 2][:2 + seed % 2]
+            for word in ("head", ("colours", 2), "names"):
+                answers, right = written([net], word)
+                plan = table_plan(seed, words)[:2] + (lambda sign, state: state % len(answers),)
+                can_be = first_choice([net], answers, right, None) is not None
+                told = steady_rounds(net, answers, right, plan, words)
+                if not can_be:
+                    self.assertIsNone(told)
+                    self.assertIsNotNone(steady_fault(net, answers, right, plan, words))
+                met[can_be] += 1
+        self.assertGreater(min(met.values()), 10)
 
     def test_any_answers(self):
         for thing in ANY_OBJECTS:

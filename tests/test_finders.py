@@ -199,6 +199,15 @@ class TestFinder(unittest.TestCase):
                             seen = walk_seen(net, place, row)
                         self.assertEqual(searcher(tuple(seen)), again(as_lists(seen)))
 
+    def test_more_seen_than_needed(self):
+        """Who goes on behind what is told is told where it was found out, or anything; but no error is raised."""
+        searcher = finder([MARKED_RING])
+        seen = walk_seen(MARKED_RING, 2, ["r", "r", "l", None, "l"])
+        for many in range(1, 7):
+            searcher(tuple(seen[:many]))
+        searcher((("strange", ("r",), None),))
+        searcher((("a", ("l", "r"), None), ("strange", (), "r"), ("a", ("l", "r"), None)))
+
     def test_long_way(self):
         self.assertEqual(fewest_moves([LONG]), slow_fewest([LONG]))
         self.assertGreater(fewest_moves([LONG]), 2)

@@ -99,6 +99,10 @@ class TestQuestions(unittest.TestCase):
         self.assertGreaterEqual(len(met), 11)
         self.assertEqual(house.answer(("kinds", "r")), ((0, 1, 2),))
         self.assertEqual(house.answer(("counts", "r", "base")), (3,))
+        # One place without roads is no base.
+        house.do(("net", "lone", ["a"], []))
+        self.assertIsNone(house.answer(("counts", "lone", "lone")))
+        self.assertIsNone(house.answer(("counts", "base", "lone")))
 
     def test_what_is_no_question(self):
         house = sample_house()
@@ -215,6 +219,17 @@ class TestDeeds(unittest.TestCase):
         self.assertEqual(shown(house), ({}, [], [], 0))
         self.assertIsNone(house.undo())
         self.assertIsNone(house.again())
+
+    def test_deeds_that_are_told_can_be_done_elsewhere(self):
+        house = sample_house()
+        other = house_with(*house.deeds())
+        self.assertTrue(other == house)
+        self.assertEqual(shown(other), shown(house))
+        deed = house.undo()
+        self.assertEqual(other.undo(), deed)
+        other.do(deed)
+        house.again()
+        self.assertTrue(other == house)
 
     def test_what_is_told_and_passed_can_be_changed(self):
         signs, roads = ["a", ["b"]], [[0, 1, ["x"], 0]]

@@ -219,6 +219,8 @@ class TestBadText(unittest.TestCase):
         text = write_house(house)
         self.assertGreater(len(text), 5000)
         self.assertTrue(read_house(text) == house)
+        number = 7 * 10 ** 2500 + 10 ** 999 + 3
+        self.assertEqual(read_house(f"net a\nplace -{number}\n").nets_kept()["a"].signs(), [-number])
         text = 'net a\nplace "' + "x" * 7900 + '"\n'
         self.assertEqual(write_house(read_house(text)), text)
         self.check("x" * 10 ** 6, 1)

@@ -2,6 +2,7 @@
 
 import itertools
 import random
+import time
 import unittest
 
 from samefromhere.errors import BadNumber, BadWalker, NoMove, NoPlace, NotJoined, NotTwoWay
@@ -182,6 +183,13 @@ class TestMeetingPlan(unittest.TestCase):
             for one, other in itertools.combinations(range(len(net)), 2):
                 pairs = two_walk(net, plan, one, other, moves)
                 self.assertEqual(pairs[-1][0] == pairs[-1][1], label[one] != label[other])
+
+    def test_long_runs(self):
+        begin = time.time()
+        plan, _ = meeting_plan(RING)
+        self.assertEqual(len(two_walk(RING, plan, 0, 1, 600)), 601)
+        self.assertEqual(two_walk(RING, lambda seen: "r", 0, 2, 600)[-1], (0, 2))
+        self.assertLess(time.time() - begin, 10)
 
 
 class TestExample(unittest.TestCase):

@@ -124,6 +124,29 @@ class TestOrders(unittest.TestCase):
                 for picks in fault:
                     self.assertEqual(quiet_run(net, first_letters(9), picks, in_turn)[1], len(picks))
 
+    def test_waiting_letters_in_their_order(self):
+        """Two letters wait, in one order or the other, and nothing else tells both stands apart: place 3 passes them on,
+        and arms place 5, by place 4, behind both; place 5 keeps the first letter that it takes when it is armed."""
+        net = Net([0, 1, "z", "pass", "relay", "keep"], [(0, 3, "", ""), (1, 3, "", ""), (2, 3, "", ""), (3, 5, "on", "on"),
+                                                         (3, 4, "go", ""), (4, 5, "", "go")])
+
+        def put(state, out):
+            if state[0] == "pass":
+                return [state[2]] if state[2] in ({"on": (0, 1), "go": ("go",)}[out]) else []
+            return [state[1]] if state[0] in (0, 1, "z", "relay") and state[1] != "cold" else []
+
+        def take(state, into, letter):
+            if state[0] == "pass":
+                return "pass", state[1] + 1, letter if letter in (0, 1) else "go" if state[1] == 2 else ""
+            if state[0] == "keep" and state[1] in ("cold", "armed"):
+                return "keep", "armed" if into == "go" else "spoiled" if state[1] == "cold" else ("kept", letter)
+            return state if state[0] == "keep" else (state[0], letter)
+
+        plan = (lambda sign: (sign, 0, "") if sign == "pass" else (sign, sign if sign in (0, 1, "z") else "cold"), put, take,
+                lambda state: state[1] if state[0] == "keep" else "")
+        for in_turn in (True, False):
+            self.assertEqual([row[5] for row in quiet_answers(net, plan, in_turn)], ["spoiled", ("kept", 0), ("kept", 1)])
+
     def test_any_order_is_more_than_in_turn(self):
         met = 0
         for net in NETS:

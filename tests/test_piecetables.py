@@ -133,6 +133,20 @@ class TestTables(unittest.TestCase):
         self.assertTrue(is_piece_parting(one, other, parting))
         self.assertIsNone(pair_table(one, other))
 
+    def test_pairs_far_from_the_gates(self):
+        """Each pair of a table asks for the senders of its roads in turn."""
+        chain = [(at, at + 1, "", "") for at in range(4)]
+        one = Piece(list("abcde"), chain, [[(0, "i")]], [(4, "o")])
+        other = Piece(list("abcde") * 2, [(at + 5, to + 5, out, into) for at, to, out, into in chain], [[(5, "i")]], [(9, "o")])
+        self.assertEqual(pair_table(one, other), [(at, at + 5) for at in range(5)])
+        self.assertTrue(is_pair_table(one, other, pair_table(one, other)))
+        self.assertFalse(is_pair_table(one, other, [(3, 8), (4, 9)]))
+
+    def test_tables_of_unlike_marks(self):
+        one, other = Piece(["a"], [], [], [(0, "o")]), Piece(["a"], [], [], [(0, "p")])
+        self.assertFalse(is_pair_table(one, other, [(0, 0)]))
+        self.assertTrue(is_pair_table(one, one, [(0, 0)]))
+
     def test_fewest_of_several_gates(self):
         """A later gate parts them in fewer rounds."""
         signs = ["a", "a", "b", "c"]
