@@ -36,6 +36,33 @@ def is_function(thing):
     return not isinstance(thing, Thing) and not isinstance(thing, NetError)
 
 
+def is_same(one, other):
+    """Whether any two objects are the same; words are so just if they are equal."""
+    todo = [(one, other)]
+    while todo:
+        near, far = todo.pop()
+        parts = _parts_beside(near, far)
+        if parts is None:
+            return False
+        todo.extend(parts)
+    return True
+
+
+def _parts_beside(one, other):
+    """The pairs of parts of any two objects that are the same if all these are, None if they are unlike."""
+    # Python's own == would tell lists from tuples, but not truths from integers.
+    if is_row(one) and is_row(other):
+        return list(zip(one, other)) if len(one) == len(other) else None
+    if isinstance(one, dict) and isinstance(other, dict):
+        keys = {key: key for key in other}
+        if len(one) != len(other) or not all([key in keys for key in one]):
+            return None
+        return [(key, keys[key]) for key in one] + [(one[key], other[key]) for key in one]
+    if isinstance(one, bool) != isinstance(other, bool) or one != other:
+        return None
+    return []
+
+
 def read_word(thing):
     """The pair (word as tuples, flat key), None for what is no word."""
     if isinstance(thing, str):

@@ -1,6 +1,6 @@
 """Event plans in all orders of events, and plans by rounds made fit for any order."""
 
-from samefromhere.basics import read_word, word_key
+from samefromhere.basics import is_same, read_word, word_key
 from samefromhere.errors import NoWord
 from samefromhere.eventruns import EventPlan, events_of
 from samefromhere.plans import need_functions, need_rounds
@@ -49,27 +49,33 @@ def _picks_to(came, key):
     return tuple(picks[::-1])
 
 
-def _quiet_answers(net, plan, in_turn):
-    """The event plan, and the pairs (tuple of the numbers of what all places tell, picks) of all quiet stands."""
+def _quiet_ends(net, plan, in_turn):
+    """The event plan, and the pairs (states, picks that lead there) of all quiet stands."""
     asked = EventPlan(plan)
-    events = events_of(net, asked, in_turn)
-    rows = [(tuple([asked.tell_word(state) for state in states]), picks)
-            for states, picks in _quiet_stands(events, in_turn)]
-    return asked, rows
+    return asked, _quiet_stands(events_of(net, asked, in_turn), in_turn)
 
 
 def order_fault(net, plan, in_turn):
-    rows = _quiet_answers(net, plan, in_turn)[1]
-    answers, picks = rows[0]
-    for others, other_picks in rows:
-        if others != answers:
-            return picks, other_picks
+    asked, ends = _quiet_ends(net, plan, in_turn)
+    # Tell is to be asked at each quiet stand, also behind the first that is unlike.
+    for states, _ in ends:
+        for state in states:
+            asked.tell(state)
+    first, picks = ends[0]
+    same = {}
+    for states, other_picks in ends[1:]:
+        for pair in zip(first, states):
+            if pair not in same:
+                same[pair] = pair[0] == pair[1] or is_same(asked.tell(pair[0]), asked.tell(pair[1]))
+            if not same[pair]:
+                return picks, other_picks
     return None
 
 
 def quiet_answers(net, plan, in_turn):
-    asked, rows = _quiet_answers(net, plan, in_turn)
-    keys = {tuple([asked.key(answer) for answer in answers]): answers for answers, _ in rows}
+    asked, ends = _quiet_ends(net, plan, in_turn)
+    rows = [tuple([asked.tell_word(state) for state in states]) for states, _ in ends]
+    keys = {tuple([asked.key(answer) for answer in answers]): answers for answers in rows}
     return [tuple([asked.word(answer) for answer in keys[key]]) for key in sorted(keys)]
 
 

@@ -164,24 +164,80 @@ class TestOrders(unittest.TestCase):
     def test_asked_once_and_tell_at_each_quiet_stand(self):
         for net in NETS:
             for plan in PLANS:
+                asked = []
                 for call in (order_fault, quiet_answers):
                     counting = Counting(plan)
                     call(net, counting.functions, False)
                     self.assertEqual(len(counting.asked), len(set(counting.asked)))
-                    self.assertTrue(any(name == 3 for name, _ in counting.asked))
+                    asked.append({given for name, given in counting.asked if name == 3})
+                self.assertTrue(asked[0])
+                # An unlike answer ends nothing ahead of its time.
+                self.assertEqual(asked[0], asked[1])
 
     def test_no_word(self):
         for thing in not_words():
-            for call in (order_fault, quiet_answers):
-                for at in range(4):
-                    plan = list(last_plan())
-                    plan[at] = (lambda *given: [thing]) if at == 1 else (lambda *given: thing)
+            for at in range(4):
+                plan = list(last_plan())
+                plan[at] = (lambda *given: [thing]) if at == 1 else (lambda *given: thing)
+                # What tell told is any object, but in the list of all that can be told.
+                for call in (order_fault, quiet_answers) if at < 3 else (quiet_answers,):
                     with self.assertRaises(NoWord) as caught:
                         call(N, plan, True)
                     self.assertIs(caught.exception.thing if at != 1 else caught.exception.thing[0], thing)
-                # Told where there is one quiet stand alone, too.
-                faults(lambda told: call(LONE, last_plan()[:3] + (lambda state: told,), False), NoWord, "thing",
-                       [(thing, thing)])
+            # Told where there is one quiet stand alone, too.
+            faults(lambda told: quiet_answers(LONE, last_plan()[:3] + (lambda state: told,), False), NoWord, "thing",
+                   [(thing, thing)])
+
+    def test_any_object_told_alike(self):
+        for thing in ANY_OBJECTS:
+            for in_turn in (True, False):
+                for net in (N, LONE):
+                    self.assertIsNone(order_fault(net, last_plan()[:3] + (lambda state: thing,), in_turn))
+
+    def test_any_object_told_otherwise(self):
+        """Place 2 of N is told one thing behind some orders, and the other behind the others."""
+        deep = [None]
+        for _ in range(200):
+            deep = [deep]
+        pairs = [(None, ""), (True, False), (True, 1), (0, False), ([True], (1,)), ([None], [[None]]), ((None,), (None, None)),
+                 ({}, []), ({}, {"a": None}), ({"a": 1}, {"b": 1}), ({"a": 1}, {"a": True}), ({1: 0}, {True: 0}),
+                 ({(1,): None}, {(True,): None}), (LONE, R), (R, None), (len, max), ({"a": [R]}, {"a": [S]}),
+                 (deep, [deep]), ([None, 1], {None: 1}), ("a", {"a": 1}), (0, {}), (1, [None])]
+        for one, other in pairs + [(other, one) for one, other in pairs]:
+            plan = last_plan()[:3] + (lambda state: one if state[0] == 5 else other,)
+            for in_turn in (True, False):
+                fault = order_fault(N, plan, in_turn)
+                self.assertEqual([type(part) for part in (fault, *fault)], [tuple] * 3)
+                near, away = [quiet_run(N, plan, picks, in_turn)[0] for picks in fault]
+                self.assertEqual({id(near[2]), id(away[2])}, {id(one), id(other)})
+                self.assertEqual(near[:2], away[:2])
+
+    def test_lists_told_for_tuples(self):
+        """Lists stand for tuples at every depth; what is equal is the same, though made anew."""
+        def deep(row, end):
+            for _ in range(200):
+                end = row([end])
+            return end
+
+        pairs = [([], ()), ([1, "a"], (1, "a")), ([[None]], ([None],)), ((True, [{}]), [True, ({},)]),
+                 ({"a": [None], "b": 1}, {"b": 1, "a": (None,)}), ({(): [[0]]}, {(): ((0,),)}),
+                 ([R], (ring("abab"),)), (Net([[0]], []), Net([(0,)], [])), (deep(list, None), deep(tuple, None))]
+        for one, other in pairs + [(other, one) for one, other in pairs]:
+            plan = last_plan()[:3] + (lambda state: one if state[0] == 5 else other,)
+            for in_turn in (True, False):
+                self.assertIsNone(order_fault(N, plan, in_turn))
+
+    def test_unlike_at_any_place(self):
+        """Behind two places that take in any order, one beside the other, all places are compared."""
+        net = Net([0, 1, 2, 2], [(0, 2, "", ""), (1, 2, "", ""), (0, 3, "", ""), (1, 3, "", "")])
+        for at in range(2, 4):
+            signs = [(int(place == at), sign) for place, sign in enumerate(net.signs())]
+            marked = Net(signs, net.roads())
+            plan = (lambda sign: ["new", sign[0], sign[1]], lambda state, out: [state[2]] if state[0] == "new" else [],
+                    lambda state, into, letter: ["old", state[1], letter], lambda state: {state[1] and state[2]: None})
+            for in_turn in (True, False):
+                near, away = [quiet_run(marked, plan, picks, in_turn)[0] for picks in order_fault(marked, plan, in_turn)]
+                self.assertEqual([one == other for one, other in zip(near, away)], [place != at for place in range(4)])
 
     def test_errors_in_order(self):
         for call in (order_fault, quiet_answers):
